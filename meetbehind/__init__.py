@@ -1,0 +1,1 @@
+"""Which hosts behind gates that lend ports can be heard by which."""

@@ -1,0 +1,29 @@
+"""Checks of single values, which may be of any kind."""
+
+LETTERS = "abcdefghijklmnopqrstuvwxyz"
+LONGEST_NAME = 8
+LAST_ADDRESS = 99
+LAST_PORT = 1000000000
+
+
+def is_integer(value, least, most):
+    """Whether a value is an integer within these bounds; True and False are none."""
+    return isinstance(value, int) and not isinstance(value, bool) and least <= value <= most
+
+
+def is_address(value):
+    """Whether a value is an address."""
+    return is_integer(value, 1, LAST_ADDRESS)
+
+
+def is_endpoint(value):
+    """Whether a value is an endpoint to which a packet can be sent."""
+    return (isinstance(value, tuple) and len(value) == 2
+            and is_address(value[0]) and is_integer(value[1], 0, LAST_PORT))
+
+
+def is_word(value):
+    """Whether a value could be the name of a station."""
+    # the length is asked first: a text may be long
+    return (isinstance(value, str) and 1 <= len(value) <= LONGEST_NAME
+            and all([letter in LETTERS for letter in value]))
