@@ -67,7 +67,7 @@ def address_of(world, name):
 
 
 def is_plain(world, name):
-    """Whether the name stands for one endpoint alone, told by one packet at the latest."""
+    """Whether the name is plain."""
     check_name(world, name)
     return plain_in(world, name, ())
 

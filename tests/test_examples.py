@@ -1,0 +1,67 @@
+"""The examples of the document, word for word ([13] to [18]).
+
+>>> from meetbehind.closure import Closure
+>>> from meetbehind.kinds import Kind
+>>> from meetbehind.named import NamedNet
+>>> from meetbehind.names import fold, is_plain, owner, read_name, show_name, sources
+>>> from meetbehind.nets import Net
+>>> from meetbehind.plans import play, reach
+>>> from meetbehind.ports import Ports
+>>> from meetbehind.routes import hidden, reachable, way
+>>> from meetbehind.worlds import World
+
+>>> ONE = World(("gate", "a", "", 5, Kind("both", "any")), ("gate", "b", "", 7, Kind("both", "far")),
+...     ("host", "x", "a", 10), ("host", "y", "b", 10), ("host", "p", "", 1))
+>>> [ONE.chain("x"), ONE.station("", 7), ONE.stations(""), str(Kind("one", "far", rests=30) & Kind("far", "any", turns=True))]
+[('a',), 'b', ('p', 'a', 'b'), 'far/far rests 30']
+
+>>> [way(ONE, "x", 10), way(ONE, "x", 5), way(ONE, "x", 1), way(ONE, "p", 10)]
+[('station', (), 'x'), ('turn', (), 'a'), ('station', ('a',), 'p'), ('nowhere', (), None)]
+>>> [list(reachable(ONE, "y")), hidden(ONE.with_part(("host", "z", "a", 1)), "a", 1)]
+[[(1, 'p'), (5, 'a'), (10, 'y')], ('p',)]
+
+>>> net = Net(ONE, choose=Ports(30, 40))
+>>> [net.send("x", (1, 1)), net.send("y", (5, 30)), net.send("x", (7, 30)), net.entries("a")]
+[('heard', 'p', (5, 30)), ('heard', 'x', (7, 30)), ('heard', 'y', (5, 40)), \
+(((10, 1), (1, 1), 30, ((1, 1),)), ((10, 1), (7, 30), 40, ((7, 30),)))]
+
+>>> a1 = ("lent", "a", ("own", 10), ("own", 1))
+>>> [show_name(a1), is_plain(ONE, a1), fold(ONE, "b", a1), owner(ONE, a1), sources(ONE, "y", a1)[-1]]
+['a(10|1)', False, 5, 'x', ('lent', 'b', ('own', 10), 5)]
+
+>>> closure = Closure(ONE)
+>>> [closure.first("y", "x"), closure.first("x", "y"), closure.rounds, [show_name(name) for name in closure.names]]
+[2, 3, 4, ['a(10|1)', 'b(10|1)', 'b(10|5?)', 'a(10|7?)']]
+
+>>> INNER = World(("gate", "c", "", 9, Kind("one", "any")), ("gate", "a", "c", 20, Kind("one", "any")), \
+("gate", "b", "c", 21, Kind("one", "far")),
+...     ("host", "x", "a", 10), ("host", "y", "b", 10), ("host", "p", "", 1), ("host", "h", "c", 22), ("host", "z", "a", 22))
+>>> [Closure(INNER).first("x", "y"), Closure(INNER).first("y", "x"), Closure(INNER, speakers=["x", "y", "p"]).first("x", "y")]
+[2, 3, None]
+
+>>> reach(ONE, "y", "x")
+('heard', ((1, 'x', ('own', 1)), (2, 'y', ('lent', 'a', ('own', 10), ('own', 1)))))
+
+Words of the text:
+
+>>> [str(Kind("one", "any")), repr(Kind("one", "any")), repr(ONE), str(World()), World.read("") == World()]
+['one/any', 'Kind(one/any)', 'World(2 gates, 3 hosts)', '', True]
+>>> [show_name(read_name(text)) for text in ("10", "7?", "a(10)", "a(10|7?)", "a(10|b(10))", "a(b(c(10)))")]
+['10', '7?', 'a(10)', 'a(10|7?)', 'a(10|b(10))', 'a(b(c(10)))']
+>>> play(NamedNet(ONE), reach(ONE, "x", "y")[1])[-1]
+('heard', 'y', ('lent', 'a', ('own', 10), 7))
+"""
+
+import doctest
+import unittest
+
+import tests.test_examples
+
+
+def load_tests(loader, suite, pattern):
+    suite.addTests(doctest.DocTestSuite(tests.test_examples))
+    return suite
+
+
+if __name__ == "__main__":
+    unittest.main()

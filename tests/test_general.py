@@ -1,0 +1,109 @@
+"""The general rules ([2]): how arguments are passed, what belongs to the caller, what errors leave as it was."""
+
+import inspect
+import unittest
+
+from meetbehind import closure, kinds, named, names, nets, packets, plans, ports, routes, worlds
+from meetbehind.closure import Closure
+from meetbehind.kinds import Kind
+from meetbehind.named import NamedNet
+from meetbehind.worlds import World
+from tests.samples import any_values, Checks, INNER, ONE, SIX
+
+FUNCTIONS = {
+    routes: {"way": "(world, host, address)", "hidden": "(world, realm, address)", "reachable": "(world, host)",
+             "free_addresses": "(world)"},
+    nets: {"tried": "(net, deed)"},
+    names: {"is_name": "(world, thing)", "address_of": "(world, name)", "is_plain": "(world, name)",
+            "owner": "(world, name)", "fold": "(world, gate, name)", "depth": "(world, name)",
+            "sources": "(world, host, name)", "show_name": "(name)", "read_name": "(text)"},
+    packets: {"walk": "(world, sends, host, name, *, forgets=())"},
+    plans: {"reach": "(world, x, y, *, speakers=None)", "play": "(net, rows)"},
+}
+CLASSES = {
+    (kinds, "Kind"): {"": "(lends, lets, *, turns=False, rests=None)", "within": "(self, other)", "read": "(text)"},
+    (worlds, "World"): {
+        "": "(*parts)", "kind": "(self, gate)", "address": "(self, name)", "realm": "(self, name)",
+        "chain": "(self, name)", "station": "(self, realm, address)", "stations": "(self, realm)",
+        "with_part": "(self, part)", "with_kind": "(self, gate, kind)", "without": "(self, name)", "read": "(text)"},
+    (ports, "Ports"): {"": "(*numbers)", "__call__": "(self, gate, used)"},
+    (nets, "Net"): {
+        "": "(world, *, choose=None)", "send": "(self, host, target)", "entries": "(self, gate)", "seen": "(self, host)",
+        "undo": "(self, count=1)", "twin": "(self)", "trial": "(self)"},
+    (named, "NamedNet"): {
+        "": "(world, *, choose=None)", "send": "(self, host, target)", "entries": "(self, gate)", "seen": "(self, host)",
+        "undo": "(self, count=1)", "twin": "(self)", "trial": "(self)", "send_to": "(self, host, name)",
+        "endpoint": "(self, name)"},
+    (closure, "Closure"): {
+        "": "(world, *, speakers=None, forgets=())", "told_in": "(self, name)", "first": "(self, x, y)",
+        "heard": "(self, x, y)", "known": "(self, number)", "arrivals": "(self)"},
+}
+
+
+class SignaturesTest(unittest.TestCase):
+
+    def test_functions(self):
+        for module, functions in FUNCTIONS.items():
+            for name, text in functions.items():
+                function = getattr(module, name)
+                self.assertEqual(function.__module__, module.__name__)
+                self.assertEqual(str(inspect.signature(function)), text, name)
+
+    def test_classes(self):
+        for (module, name), methods in CLASSES.items():
+            one = getattr(module, name)
+            self.assertEqual(one.__module__, module.__name__)
+            for method, text in methods.items():
+                self.assertEqual(str(inspect.signature(getattr(one, method) if method else one)), text, method)
+
+
+class ObjectsTest(Checks, unittest.TestCase):
+
+    def test_a_caller_cannot_change_an_object_by_what_it_got(self):
+        net = NamedNet(ONE)
+        net.send_to("x", ("own", 1))
+        one = Closure(ONE)
+        for got in (ONE.parts, ONE.gates, ONE.hosts, ONE.chain("x"), ONE.stations(""), net.log, net.told,
+                    net.entries("a"), net.known_names, one.speakers, one.names, one.known(2), plans.reach(ONE, "x", "y")):
+            self.assert_frozen(got)
+
+    def assert_frozen(self, value):
+        self.assertIsInstance(value, (tuple, str, int, Kind, type(None)))
+        if isinstance(value, tuple):
+            for part in value:
+                self.assert_frozen(part)
+
+    def test_arguments_stay_as_they_are(self):
+        speakers = ["y", "x", "p", "x"]
+        forgets = ["b", "a"]
+        sends = [("y", ("own", 1)), ("x", ("own", 1))]
+        Closure(ONE, speakers=speakers, forgets=forgets)
+        plans.reach(ONE, "x", "y", speakers=speakers)
+        packets.walk(ONE, sends, "x", ("own", 1), forgets=forgets)
+        self.assertEqual((speakers, forgets), (["y", "x", "p", "x"], ["b", "a"]))
+        self.assertEqual(sends, [("y", ("own", 1)), ("x", ("own", 1))])
+
+    def test_a_closure_does_not_depend_on_later_lists(self):
+        speakers = ["x"]
+        one = Closure(ONE, speakers=speakers)
+        speakers.append("y")
+        self.assertEqual((one.speakers, one.first("y", "p")), (("x",), None))
+
+    def test_the_same_is_returned_each_time(self):
+        for world in (ONE, INNER, SIX):
+            for x in world.hosts:
+                for y in world.hosts:
+                    self.assert_same(plans.reach(world, x, y), plans.reach(World(*world.parts), x, y))
+
+    def test_questions_take_any_value_without_other_errors(self):
+        for value in any_values():
+            self.assertIn(value in ONE, (True, False))
+            self.assertIn(names.is_name(ONE, value), (True, False))
+            self.assertIn(ONE == value, (True, False))
+            self.assertIn(Kind("one", "any") == value, (True, False))
+            self.assertIn(NamedNet(ONE) == value, (True, False))
+            self.assertIsNone(ONE.station("", value) if not isinstance(value, int) else None)
+
+
+if __name__ == "__main__":
+    unittest.main()
