@@ -6,6 +6,8 @@ from meetbehind.words import number_of
 
 LEAST_REST = 2
 MOST_REST = 1000000
+# how loose the words for lending and for letting in are
+LOOSE = {"both": 0, "far": 1, "one": 2, "any": 2}
 
 
 class Kind:
@@ -87,7 +89,7 @@ class Kind:
 def _ranks(kind):
     """How loose each part of a kind is, as numbers."""
     rests = MOST_REST + 1 if kind.rests is None else kind.rests
-    return [Kind.LENDS.index(kind.lends), Kind.LETS.index(kind.lets), int(kind.turns), rests]
+    return [LOOSE[kind.lends], LOOSE[kind.lets], int(kind.turns), rests]
 
 
 def _kind_of_ranks(ranks):
@@ -101,8 +103,8 @@ def kind_of_words(words, line, before):
     """The kind of the words of a text; in an error they stand in this line, behind so many others."""
     if not words:
         raise InvalidText(line, before)
-    lends, slash, lets = words[0].partition("/")
-    if slash == "" or lends not in Kind.LENDS or lets not in Kind.LETS:
+    lends, _, lets = words[0].partition("/")
+    if lends not in Kind.LENDS or lets not in Kind.LETS:
         raise InvalidText(line, before)
     at = 1
     turns = words[at:at + 1] == ["turns"]

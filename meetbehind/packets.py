@@ -51,9 +51,7 @@ def openings(world, packet):
 
 
 def is_shut(world, entry, source, forgets):
-    """Whether an entry lets in no packet with this source, whatever was sent."""
-    if entry[1] in forgets:
-        return True
+    """Whether an entry, at a gate that does not forget, lets in no packet with this source, whatever was sent."""
     return world.kind(entry[1]).lets == "both" and not plain_in(world, source, forgets)
 
 

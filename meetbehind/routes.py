@@ -43,8 +43,8 @@ def hidden(world, realm, address):
     if not is_address(address):
         raise InvalidTarget(address)
     _, gates, place = route(world, realm, address)
-    realms = _realms_outwards(world, realm)
-    found = [world.station(further, address) for further in realms[len(gates) + 1:]]
+    realms = _realms_outwards(world, realm)[len(gates):]
+    found = [world.station(further, address) for further in realms]
     return tuple([name for name in found if name is not None and name != place])
 
 

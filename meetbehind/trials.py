@@ -32,7 +32,7 @@ class Attempt:
 
     def __init__(self, net):
         self._net = net
-        self._before = net.state
+        self._before = None
 
     def __enter__(self):
         self._before = self._net.state

@@ -34,6 +34,7 @@ class IsNameTest(Checks, unittest.TestCase):
 
     def test_values_that_look_right(self):
         for value in (
+                ("Lent", "a", ("own", 10), 5), ("own", "a", ("own", 10), 5), (None, "a", ("own", 10), 5),
                 ("own", 5), ("own", 7), ("own", 2), ("blind", 10), ("blind", 1), ("own", "10"), ("own",), ("own", 10, 1),
                 ("Own", 10), ("lent", "a", ("own", 10)), ("lent", "a", ("own", 10), ("own", 1), 1),
                 ("lent", "a", ("own", 1), ("own", 1)), ("lent", "a", ("own", 5), 5), ("lent", "a", ("blind", 5), 5),

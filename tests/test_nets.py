@@ -175,6 +175,16 @@ class SendTest(Checks, unittest.TestCase):
         self.assert_same(list(net.seen("p")), [("x", (5, 2)), ("y", (7, 2)), ("x", (5, 2)), ("p", (1, 1))])
         self.assert_same(list(net.seen(host="x")), [])
 
+    def test_hosts_called_like_the_words_of_lost_packets(self):
+        world = World(("host", "port", "", 1), ("host", "nowhere", "", 2), ("host", "heard", "", 3))
+        net = Net(world)
+        self.assert_same(net.send("heard", (1, 2)), ("lost", "port", "port"))
+        self.assert_same(net.send("heard", (9, 1)), ("lost", "nowhere", ""))
+        self.assert_same([list(net.seen(host)) for host in ("port", "nowhere", "heard")], [[], [], []])
+        self.assertEqual(net.told, ())
+        self.assert_same(net.send("port", (3, 1)), ("heard", "heard", (1, 1)))
+        self.assert_same(list(net.seen("heard")), [("port", (1, 1))])
+
 
 class ChooseTest(Checks, unittest.TestCase):
 
@@ -363,6 +373,16 @@ class TwinTest(Checks, unittest.TestCase):
         one.send("x", (99, 1))
         one.undo()
         self.assertIs(one == Net(LENDS_ONE), True)
+
+    def test_unlike_logs_with_the_same_entries_are_not_equal(self):
+        one, two = Net(ONE), Net(ONE)
+        one.send("x", (10, 1))
+        self.assertIs(one == two, False)
+        two.send("y", (10, 1))
+        self.assertIs(one == two, False)
+        two.undo()
+        two.send("x", (10, 1))
+        self.assertIs(one == two, True)
 
     def test_logs_with_unlike_entries_are_not_equal(self):
         one, two = Net(LENDS_ONE), Net(LENDS_ONE, choose=Ports(50))

@@ -67,7 +67,7 @@ class PartsTest(Checks, unittest.TestCase):
     def test_forms_that_are_nearly_right(self):
         for part in (
                 host("x") + (FREE,), gate("x")[:4], gate("x") + (1,), ["host", "x", "", 1], ("Host", "x", "", 1),
-                ("gates",) + gate("x")[1:], host("x", "", 0), host("x", "", 100), host("x", "", True),
+                ("host", "x", ""), ("gate", "x"), ("gates",) + gate("x")[1:], host("x", "", 0), host("x", "", 100), host("x", "", True),
                 host("x", "", "1"), host("x", None, 1), host("x", "-", 1), host("x", "A", 1), host("", "", 1),
                 host("abcdefghi", "", 1), host("x", "abcdefghi", 1), host("X", "", 1), host("x1", "", 1),
                 host("x\n", "", 1), gate("x", "", 1, "one/any"), gate("x", "", 1, None), (), ("host",), "host"):
