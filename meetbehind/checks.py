@@ -22,6 +22,19 @@ def is_endpoint(value):
             and is_address(value[0]) and is_integer(value[1], 0, LAST_PORT))
 
 
+def is_round(value):
+    """Whether a value is the number of a round."""
+    return isinstance(value, int) and not isinstance(value, bool) and value >= 1
+
+
+def is_same(value, right):
+    """Whether any value is equal to a value of tuples, strings and integers, and also of the same kinds."""
+    if isinstance(right, tuple):
+        return (isinstance(value, tuple) and len(value) == len(right)
+                and all([is_same(one, other) for one, other in zip(value, right)]))
+    return not isinstance(value, bool) and value == right
+
+
 def is_word(value):
     """Whether a value could be the name of a station."""
     # the length is asked first: a text may be long

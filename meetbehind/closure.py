@@ -1,5 +1,6 @@
 """The closure of all that can be known and delivered."""
 
+from meetbehind.checks import is_round
 from meetbehind.course import Course
 from meetbehind.errors import NoRound
 from meetbehind.given import check_host, given_gates, given_speakers
@@ -58,8 +59,7 @@ class Closure:
 
     def known(self, number):
         """All names that are known in the round of this number, sorted."""
-        # how large a number may be is not said, so only its lower bound is asked
-        if not isinstance(number, int) or isinstance(number, bool) or number < 1:
+        if not is_round(number):
             raise NoRound(number)
         told = [name for name in self._since if self._since[name] < number]
         return tuple(sorted(known_at_first(self._world) + told, key=show_name))

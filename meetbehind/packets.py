@@ -55,6 +55,12 @@ def is_shut(world, entry, source, forgets):
     return world.kind(entry[1]).lets == "both" and not plain_in(world, source, forgets)
 
 
+def is_barred(world, entry, source, opened, forgets):
+    """Whether an entry, at a gate that does not forget, bars a source if all in the dict opened was opened."""
+    needed = opening(world, entry, source)
+    return is_shut(world, entry, source, forgets) or (needed is not None and needed not in opened)
+
+
 def walk(world, sends, host, name, *, forgets=()):
     """What becomes of a packet of the host to the name, if the pairs in sends were sent in earlier rounds."""
     check_host(world, host)
@@ -65,25 +71,13 @@ def walk(world, sends, host, name, *, forgets=()):
     # only packets of the owner of the name go out by the entries that are needed
     keeper = owner_of(world, name)
     sent = [Packet(world, keeper, pair[1], forgetting) for pair in pairs if pair[0] == keeper]
+    made = {entry: True for other in sent + [packet] for entry in other.shows}
+    opened = {pair: True for other in sent for pair in openings(world, other)}
     for entry in packet.enters:
-        word = _word_at(world, entry, packet, sent, forgetting)
-        if word is not None:
-            return ("lost", word, entry[1])
+        if entry[1] in forgetting or entry not in made:
+            return ("lost", "closed", entry[1])
+        if is_barred(world, entry, packet.shows[-1], opened, forgetting):
+            return ("lost", "barred", entry[1])
     if packet.end[0] == "lost":
         return packet.end
     return ("heard", packet.end[1], packet.shows[-1])
-
-
-def _word_at(world, entry, packet, sent, forgets):
-    """By which word a packet is lost where it needs an entry, or None if it comes in."""
-    if entry[1] in forgets:
-        return "closed"
-    if not any([entry in other.shows for other in sent + [packet]]):
-        return "closed"
-    source = packet.shows[-1]
-    if is_shut(world, entry, source, forgets):
-        return "barred"
-    needed = opening(world, entry, source)
-    if needed is None or any([needed in openings(world, other) for other in sent]):
-        return None
-    return "barred"

@@ -16,14 +16,14 @@ def reach(world, x, y, *, speakers=None):
     row = course.first_row(x, y)
     if row is None:
         return ("never", tuple(sorted(list(course.since), key=show_name)))
-    return ("heard", plan_rows(world, course, row[:3], ()))
+    return ("heard", plan_rows(world, course, [row[:3]], ()))
 
 
-def plan_rows(world, course, goal, forgets):
-    """The rows of a plan by which the packet of the row goal is delivered in its round, as in the course."""
+def plan_rows(world, course, goals, forgets):
+    """The rows of a plan by which the packet of each row in goals is delivered in its round, as in the course."""
     rows = {}
     delivered = {}
-    waiting = [goal]
+    waiting = list(goals)
     while waiting:
         row = waiting.pop()
         if row in delivered:

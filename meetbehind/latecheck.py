@@ -1,0 +1,36 @@
+"""Whether any value is a right bound."""
+
+from meetbehind.checks import is_round
+from meetbehind.earliest import earliest_rows, listed_rounds, rounds_of_all
+from meetbehind.given import check_host, given_speakers
+
+
+def shows_late(world, x, y, thing, *, speakers=None):
+    """Whether any value is a right bound for x and y."""
+    check_host(world, x)
+    check_host(world, y)
+    return is_bound_for(world, given_speakers(world, speakers), x, y, thing)
+
+
+def is_never_for(world, speakers, x, y, thing):
+    """Whether any value is a right bound of these speakers which shows that y never hears x."""
+    return is_bound_for(world, speakers, x, y, thing) and thing[0] is None
+
+
+def is_bound_for(world, speakers, x, y, thing):
+    """Whether any value is a right bound of these speakers for x and y."""
+    if not isinstance(thing, tuple) or len(thing) != 2 or not (thing[0] is None or is_round(thing[0])):
+        return False
+    listed = listed_rounds(world, thing[1])
+    if listed is None:
+        return False
+    told = rounds_of_all(world, (), listed)
+    for number, sender, _, host, source in earliest_rows(world, speakers, told, ()):
+        if thing[0] is not None and number >= thing[0]:
+            continue
+        if sender == x and host == y:
+            return False
+        # own names are told in round 0
+        if host in speakers and (source not in told or told[source] > number):
+            return False
+    return True
