@@ -132,6 +132,9 @@ class NameModel:
         self.forgets = forgets
         self.speakers = self.map.hosts if speakers is None else sorted(set(speakers))
         self.ways = {}
+        # lent names that are known before the first round, and to which targets their entries, and others, were sent
+        self.left = []
+        self.before = {}
 
     def address(self, name):
         return self.map.addresses[name[1]] if name[0] == "lent" else name[1]
@@ -178,6 +181,7 @@ class NameModel:
             if name[0] != "lent" or name[1] != place or place in self.forgets:
                 return ("lost", "closed", place)
             outgoing = [target for sender, target in sends if name in self.way(sender, target)[0]]
+            outgoing += self.before.get(name, [])
             if not outgoing and name not in sources:
                 return ("lost", "closed", place)
             lets = self.map.kinds[place].lets
@@ -194,6 +198,7 @@ class NameModel:
         where = self.map
         since = {("own", where.addresses[host]): 0 for host in where.hosts}
         since.update({("blind", where.addresses[gate]): 0 for gate in where.kinds})
+        since.update({name: 0 for name in self.left})
         arrivals = []
         arrived = set()
         sends = set()
@@ -219,20 +224,224 @@ class NameModel:
                 since.setdefault(name, first)
         return since, arrivals
 
-    def shows_plan(self, x, y, rows):
-        """Whether rows are a plan in which y hears x in the last round, by the words of [18]."""
-        if not rows or list(rows) != sorted(set(rows), key=lambda row: (row[0], row[1], text_of(row[2]))):
+    def is_name(self, thing):
+        """Whether any value is a name of the world, by the words of [16]."""
+        where = self.map
+        hosts = [where.addresses[host] for host in where.hosts]
+        gates = [where.addresses[gate] for gate in where.kinds]
+        if thing.__class__ is not tuple or len(thing) not in (2, 4):
             return False
-        told = {}
-        heard = False
-        last = max(row[0] for row in rows)
-        for number, host, name in rows:
-            if host not in self.speakers or (name[0] == "lent" and not told.get(name, number) < number):
+        if len(thing) == 2:
+            return thing[1].__class__ is int and (
+                (thing[0] == "own" and thing[1] in hosts) or (thing[0] == "blind" and thing[1] in gates))
+        word, gate, inner, key = thing
+        if word != "lent" or gate.__class__ is not str or gate not in where.kinds or not self.is_name(inner):
+            return False
+        if inner[0] == "own":
+            if where.stations.get((gate, inner[1])) not in where.hosts:
                 return False
+        elif inner[0] != "lent" or where.realms[inner[1]] != gate:
+            return False
+        lends = where.kinds[gate].lends
+        if lends == "one":
+            return key is None
+        if key.__class__ is int:
+            return key in gates or (lends == "far" and key in hosts)
+        return lends == "both" and self.is_name(key) and self.plain(key)
+
+    def deliveries(self, rows):
+        """The tuples (round, sender, host) of a plan, or None if any value is no plan, by the words of [18]."""
+        if rows.__class__ is not tuple or not rows:
+            return None
+        for row in rows:
+            if (row.__class__ is not tuple or len(row) != 3 or row[0].__class__ is not int or row[0] < 1
+                    or row[1].__class__ is not str or row[1] not in self.speakers or not self.is_name(row[2])):
+                return None
+        if list(rows) != sorted(set(rows), key=lambda row: (row[0], row[1], text_of(row[2]))):
+            return None
+        told = {}
+        found = []
+        for number, host, name in rows:
+            if name[0] == "lent" and not told.get(name, number) < number:
+                return None
             earlier = [(sender, target) for at, sender, target in rows if at < number]
             result = self.walk(earlier, host, name)
             if result[0] == "heard":
-                heard = heard or (number == last and host == x and result[1] == y)
+                found.append((number, host, result[1]))
                 if result[1] in self.speakers and self.tellable(result[2]):
                     told[result[2]] = min(number, told.get(result[2], number))
-        return heard
+        return found
+
+    def shows_plan(self, x, y, rows):
+        """Whether any value is a plan in which y hears x in the last round."""
+        found = self.deliveries(rows)
+        return found is not None and (rows[-1][0], x, y) in found
+
+    def earliest(self, told, host, name):
+        """(round, hearer, source) of a packet that is delivered, or None, by the words of [19]."""
+        sources, place, word = self.way(host, name)
+        if word is not None:
+            return None
+        numbers = [told[name] + 1]
+        source = sources[-1]
+        while place in self.map.kinds:
+            if name[:2] != ("lent", place):
+                return None
+            inner = name
+            while inner[2][0] == "lent":
+                inner = inner[2]
+            owner = self.map.stations[(inner[1], inner[2][1])]
+            others = [other for other in told if owner in self.speakers and name in self.way(owner, other)[0]]
+            before = self.before.get(name, [])
+            lets = self.map.kinds[place].lets
+            if lets == "far":
+                waits = [told[other] + 2 for other in others if self.address(other) == self.address(source)]
+                waits += [0 for other in before if self.address(other) == self.address(source)]
+            else:
+                waits = [told[other] + 2 for other in others if other == source and self.plain(source)]
+                waits += [0 for other in before if other == source and self.plain(source)]
+            if lets != "any":
+                if not waits:
+                    return None
+                numbers.append(min(waits))
+            name = name[2]
+            place = self.map.stations[(place, self.address(name))]
+        return (max(numbers), place, source) if name[0] == "own" else None
+
+    def listed(self, pairs):
+        """The numbers of all names if any value lists lent names as [19] says, or None."""
+        told = {("own", self.map.addresses[host]): 0 for host in self.map.hosts}
+        told.update({("blind", self.map.addresses[gate]): 0 for gate in self.map.kinds})
+        told.update({name: 0 for name in self.left})
+        if pairs.__class__ is not tuple:
+            return None
+        for pair in pairs:
+            if pair.__class__ is not tuple or len(pair) != 2 or pair[0].__class__ is not int or pair[0] < 1:
+                return None
+            if not self.is_name(pair[1]) or pair[1][0] != "lent" or pair[1] in told:
+                return None
+            told[pair[1]] = pair[0]
+        return told
+
+    def shows_bound(self, x, y, thing):
+        """Whether any value is a right bound, by the words of [19]."""
+        if thing.__class__ is not tuple or len(thing) != 2:
+            return False
+        number, pairs = thing
+        told = self.listed(pairs)
+        if told is None or not (number is None or (number.__class__ is int and number >= 1)):
+            return False
+        for host in self.speakers:
+            for name in told:
+                found = self.earliest(told, host, name)
+                if found is None or (number is not None and found[0] >= number):
+                    continue
+                if (host, found[1]) == (x, y):
+                    return False
+                if found[1] in self.speakers and not (found[2] in told and told[found[2]] <= found[0]):
+                    return False
+        return True
+
+    def book(self):
+        """The book of the rounds."""
+        since, arrivals = self.closure()
+        told = [(since[name], name) for name in since if since[name] > 0]
+        return (tuple(sorted(told, key=lambda pair: (pair[0], text_of(pair[1])))),
+                tuple(sorted(arrivals, key=lambda row: (row[0], row[1], text_of(row[2])))))
+
+    def is_book(self, thing):
+        """Whether a pair of told and rows, all of the right kinds, is a right book, by the words of [30]."""
+        pairs, rows = thing
+        told = self.listed(pairs)
+        if told is None or list(pairs) != sorted(pairs, key=lambda pair: (pair[0], text_of(pair[1]))):
+            return False
+        packets = [(host, name, self.earliest(told, host, name)) for host in self.speakers for name in told]
+        expected = [(found[0], host, name) + found[1:] for host, name, found in packets if found is not None]
+        if list(rows) != sorted(expected, key=lambda row: (row[0], row[1], text_of(row[2]))):
+            return False
+        for number, name in pairs:
+            if number != min([row[0] for row in rows if row[3] in self.speakers and row[4] == name], default=None):
+                return False
+        return all(row[4] in told for row in rows if row[3] in self.speakers)
+
+
+def model_behind(world, event):
+    """The model of the rounds behind an event, by the words of [33] and [34]."""
+    old = NameModel(world)
+    since, _ = old.closure()
+
+    def innermost(name):
+        while name[2][0] == "lent":
+            name = name[2]
+        return name
+
+    def is_dead(name):
+        if name[0] != "lent":
+            return False
+        if event[0] == "moves":
+            return innermost(name)[1:3] == (old.map.realms[event[1]], ("own", old.map.addresses[event[1]]))
+        return name[1] == event[1] or is_dead(name[2])
+
+    def rest(name):
+        if name[0] != "lent":
+            return name
+        key = old.address(name[3]) if isinstance(name[3], tuple) and is_dead(name[3]) else name[3]
+        return ("lent", name[1], rest(name[2]), key)
+
+    parts = world.parts
+    if event[0] == "moves":
+        parts = [part for part in parts if part[1] != event[1]]
+        parts.append(("host", event[1], event[2], old.map.addresses[event[1]]))
+    model = NameModel(World(*parts))
+    model.left = sorted({rest(name) for name in since if name[0] == "lent" and not is_dead(name)}, key=text_of)
+    for host in old.map.hosts:
+        for name in since:
+            target = ("blind", old.address(name)) if is_dead(name) else rest(name)
+            for entry in old.way(host, name)[0][1:]:
+                if not is_dead(entry):
+                    model.before.setdefault(rest(entry), []).append(target)
+    return model
+
+
+class AgentModel:
+    """The agreement of [22], with its words: all sends of earlier rounds are judged anew in each round."""
+
+    def __init__(self, world, x, y, helper):
+        self.model = NameModel(world)
+        self.hosts = (x, y, helper)
+        self.sends = []
+        self.rounds = []
+
+    def learned(self, host):
+        """The lent names by which a host showed itself so far."""
+        names = {row[3] for rows in self.rounds for row in rows
+                 if row[0] == host and row[2] in self.hosts and row[2] != host and row[3][0] == "lent"}
+        return tuple(sorted(names, key=text_of))
+
+    def step(self):
+        x, y, helper = self.hosts
+        own = {host: ("own", self.model.map.addresses[host]) for host in self.hosts}
+        sends = {(x, own[helper]), (x, own[y]), (y, own[helper]), (y, own[x])}
+        sends |= {(x, name) for name in self.learned(y)} | {(y, name) for name in self.learned(x)}
+        results = [(host, name) + self.model.walk(self.sends, host, name)
+                   for host, name in sorted(sends, key=lambda send: (send[0], text_of(send[1])))]
+        self.rounds.append([(row[0], row[1], row[3], row[4]) for row in results if row[2] == "heard"])
+        self.sends += list(sends)
+        return tuple(self.rounds[-1])
+
+    def result(self):
+        """The result of the last round, or None."""
+        x, y, _ = self.hosts
+        pairs = []
+        for row in self.rounds[-1]:
+            for other in self.rounds[-1]:
+                if (row[0], row[2], other[0], other[2]) == (x, y, y, x) and (row[1], row[3]) == (other[3], other[1]):
+                    pairs.append((row[1], row[3]))
+        pairs = [pair for pair in pairs if self.model.plain(pair[0]) or self.model.plain(pair[1])]
+        first = min(pairs, key=lambda pair: (text_of(pair[0]), text_of(pair[1])), default=None)
+        return None if first is None else (len(self.rounds),) + first
+
+    def quiet(self):
+        """Whether nothing new was delivered in the last round."""
+        earlier = {row[:2] for rows in self.rounds[:-1] for row in rows}
+        return all(row[:2] in earlier for row in self.rounds[-1])

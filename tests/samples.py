@@ -1,5 +1,6 @@
 """Worlds, values and helpers that several tests use."""
 
+from meetbehind.agents import Agent
 from meetbehind.closure import Closure
 from meetbehind.errors import InvalidKind, NoStation
 from meetbehind.kinds import Kind
@@ -27,6 +28,16 @@ SIX = World(("gate", "a", "", 1, Kind("one", "any")), ("gate", "b", "a", 1, Kind
             ("host", "h", "a", 99), ("host", "i", "b", 99), ("host", "j", "c", 99), ("host", "k", "d", 99),
             ("host", "l", "e", 99), ("host", "m", "f", 98), ("host", "n", "", 99), ("host", "o", "", 97))
 
+TALKERS = ONE.with_kind("a", Kind("both", "both")).with_kind("b", Kind("one", "any"))
+DRIFT = World(("gate", "a", "", 5, Kind("one", "any")), ("gate", "b", "", 7, Kind("both", "far")),
+              ("host", "x", "a", 10), ("host", "y", "b", 11), ("host", "p", "", 1))
+# six gates, three within one another, and eight hosts; much is told in it
+BIG = World(("gate", "a", "", 10, Kind("both", "far")), ("gate", "b", "a", 11, Kind("both", "any")),
+            ("gate", "c", "b", 12, Kind("far", "any")), ("gate", "d", "b", 13, Kind("one", "any", turns=True)),
+            ("gate", "e", "a", 14, Kind("both", "any")), ("gate", "f", "", 15, Kind("far", "any", turns=True)),
+            ("host", "s", "f", 40), ("host", "t", "f", 41), ("host", "u", "", 42), ("host", "v", "e", 43),
+            ("host", "w", "f", 44), ("host", "x", "c", 45), ("host", "y", "", 46), ("host", "z", "e", 47))
+
 A1 = ("lent", "a", ("own", 10), ("own", 1))
 B1 = ("lent", "b", ("own", 10), ("own", 1))
 B5 = ("lent", "b", ("own", 10), 5)
@@ -46,7 +57,7 @@ def any_values():
         "abcdefgh", "abcdefghi", "a b", "x\n", "\n", "1", "10", "one", "one/any", "z" * 4000, (), (1,), (1, 1), (5, True),
         (True, 5), ("x",), ("own", 10), ("own", True), ("blind", 5), ["own", 10], [], [1], ["x"], {}, {"x": 1}, set(),
         {1, 2}, {"x"}, nested("x", 19), [[[["x"]]]], ("host", "x", "", 1), Kind("one", "any"), World(), ONE, Net(ONE),
-        NamedNet(ONE), Ports(), Ports(2, 3), NoStation("x"), InvalidKind(0), Closure(ONE), Net(ONE).trial(), A1, list(A1),
+        NamedNet(ONE), Agent(ONE, "x", "y", "p"), Ports(), Ports(2, 3), NoStation("x"), InvalidKind(0), Closure(ONE), Net(ONE).trial(), A1, list(A1),
         B5, ("lent", "b", ["own", 10], 5), ("lent", "b", ("own", 10), True), ("lent", "b", ("own", 10), None),
     ]
 
@@ -63,6 +74,40 @@ def same(one, two):
 def values_but(rights):
     """All values of any_values that are none of these."""
     return [value for value in any_values() if not any(same(value, right) for right in rights)]
+
+
+def changed_here(thing):
+    """Values that differ from a value of tuples, integers, strings and None, but not within its parts."""
+    found = [None, True, [], (thing,)]
+    if isinstance(thing, int):
+        found += [thing + 1, thing - 1, -thing, thing == 1, str(thing), 10 ** 59, (thing, thing)]
+    elif isinstance(thing, str):
+        found += ["", thing + "a", "x", "y", "a", "b", "own", "blind", "lent", [thing], 1]
+    elif isinstance(thing, tuple):
+        found += [list(thing), thing + thing, thing[::-1], {part: 1 for part in thing}]
+        for at, part in enumerate(thing):
+            found += [thing[:at] + thing[at + 1:], thing[:at] + (part,) + thing[at:]]
+    return [value for value in found if not same(value, thing)]
+
+
+def changed(thing):
+    """Values that differ in one part, at any depth, from a value of tuples, integers, strings and None."""
+    found = changed_here(thing)
+    for at, part in enumerate(thing if isinstance(thing, tuple) else ()):
+        found += [thing[:at] + (other,) + thing[at + 1:] for other in changed(part)]
+    return found
+
+
+def some_changed(thing, rng, many):
+    """So many values like those of changed, at random."""
+    return [one_changed(thing, rng) for _ in range(many)]
+
+
+def one_changed(thing, rng):
+    if isinstance(thing, tuple) and thing and rng.random() < 0.8:
+        at = rng.randrange(len(thing))
+        return thing[:at] + (one_changed(thing[at], rng),) + thing[at + 1:]
+    return rng.choice(changed_here(thing))
 
 
 class Checks:

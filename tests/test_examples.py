@@ -1,13 +1,23 @@
-"""The examples of the document, word for word ([13] to [18]).
+"""The examples of the document, word for word, as far as it is built.
 
+>>> from meetbehind.agents import Agent
+>>> from meetbehind.bookcheck import shows_book
+>>> from meetbehind.books import book, first_in
 >>> from meetbehind.closure import Closure
+>>> from meetbehind.families import blockers
 >>> from meetbehind.kinds import Kind
+>>> from meetbehind.late import late, reasons
+>>> from meetbehind.leftovers import remaining
 >>> from meetbehind.named import NamedNet
 >>> from meetbehind.names import fold, is_plain, owner, read_name, show_name, sources
 >>> from meetbehind.nets import Net
+>>> from meetbehind.plancheck import shows_plan
 >>> from meetbehind.plans import play, reach
 >>> from meetbehind.ports import Ports
+>>> from meetbehind.questions import family
 >>> from meetbehind.routes import hidden, reachable, way
+>>> from meetbehind.speakers import least_speakers, needed
+>>> from meetbehind.talks import even, shows_talk
 >>> from meetbehind.worlds import World
 
 >>> ONE = World(("gate", "a", "", 5, Kind("both", "any")), ("gate", "b", "", 7, Kind("both", "far")),
@@ -42,7 +52,41 @@
 >>> reach(ONE, "y", "x")
 ('heard', ((1, 'x', ('own', 1)), (2, 'y', ('lent', 'a', ('own', 10), ('own', 1)))))
 
+>>> shows_plan(ONE, "x", "y", ((1, "x", ("own", 1)), (2, "y", a1), (3, "x", ("lent", "b", ("own", 10), 5))))
+True
+
+>>> STRICT = ONE.with_kind("b", Kind("both", "both"))
+>>> late(STRICT, "x", "y")
+(None, ((1, ('lent', 'a', ('own', 10), ('own', 1))), (1, ('lent', 'b', ('own', 10), ('own', 1))), (2, ('lent', 'b', ('own', 10), 5))))
+>>> [row[1:] for row in reasons(STRICT, "x", "y") if row[0][0] == "lent"]
+[('unturned', 'a'), ('barred', 'b'), ('barred', 'b')]
+
+>>> shows_talk(ONE, "x", "y", ("talk", ((1, "x", ("own", 1)), (2, "y", a1), (3, "x", ("lent", "b", ("own", 10), 5)))))
+True
+
+>>> TALKERS = ONE.with_kind("a", Kind("both", "both")).with_kind("b", Kind("one", "any"))
+>>> agent = Agent(TALKERS, "x", "y", "p")
+>>> [len([step for step in agent.run()]), agent.result[0], show_name(agent.result[1]), show_name(agent.result[2])]
+[3, 3, 'b(10)', 'a(10|b(10))']
+
+>>> [least_speakers(ONE, "x", "y"), needed(ONE, "y", "x")]
+[(('p', 'x', 'y'),), ('p', 'x', 'y')]
+
+>>> [first_in(book(ONE), "x", "y"), len(book(ONE)[0]), shows_book(ONE, book(ONE)), shows_book(STRICT, book(ONE))]
+[3, 4, True, False]
+
+>>> [blockers((("a",), ("b", "c"))), family(STRICT, "x", "y", "gates"), family(STRICT, "x", "y", "helpers")]
+[(('a', 'b'), ('a', 'c')), ((('a',), ('b',)), (('a', 'b'),)), ((), ((),))]
+
+>>> DRIFT = World(("gate", "a", "", 5, Kind("one", "any")), ("gate", "b", "", 7, Kind("both", "far")),
+...     ("host", "x", "a", 10), ("host", "y", "b", 11), ("host", "p", "", 1))
+>>> [show_name(name) for name in remaining(DRIFT, ("falls", "a"))]
+['b(11|1)', 'b(11|5?)']
+
 Words of the text:
+
+>>> even(ONE, "x", "y") is None
+True
 
 >>> [str(Kind("one", "any")), repr(Kind("one", "any")), repr(ONE), str(World()), World.read("") == World()]
 ['one/any', 'Kind(one/any)', 'World(2 gates, 3 hosts)', '', True]
@@ -50,6 +94,8 @@ Words of the text:
 ['10', '7?', 'a(10)', 'a(10|7?)', 'a(10|b(10))', 'a(b(c(10)))']
 >>> play(NamedNet(ONE), reach(ONE, "x", "y")[1])[-1]
 ('heard', 'y', ('lent', 'a', ('own', 10), 7))
+>>> [blockers(()), blockers((("a",), ()))]
+[((),), ()]
 """
 
 import doctest

@@ -3,12 +3,13 @@
 import inspect
 import unittest
 
-from meetbehind import closure, kinds, named, names, nets, packets, plans, ports, routes, worlds
+from meetbehind import (agents, bookcheck, books, closure, families, kinds, late, latecheck, leftovers, named, names,
+                        nets, packets, plancheck, plans, ports, questions, routes, speakers, talks, worlds)
 from meetbehind.closure import Closure
 from meetbehind.kinds import Kind
 from meetbehind.named import NamedNet
 from meetbehind.worlds import World
-from tests.samples import any_values, Checks, INNER, ONE, SIX
+from tests.samples import any_values, Checks, INNER, ONE, SIX, STRICT
 
 FUNCTIONS = {
     routes: {"way": "(world, host, address)", "hidden": "(world, realm, address)", "reachable": "(world, host)",
@@ -19,6 +20,18 @@ FUNCTIONS = {
             "sources": "(world, host, name)", "show_name": "(name)", "read_name": "(text)"},
     packets: {"walk": "(world, sends, host, name, *, forgets=())"},
     plans: {"reach": "(world, x, y, *, speakers=None)", "play": "(net, rows)"},
+    plancheck: {"shows_plan": "(world, x, y, thing, *, speakers=None)"},
+    late: {"late": "(world, x, y, *, speakers=None)", "reasons": "(world, x, y, *, speakers=None)"},
+    latecheck: {"shows_late": "(world, x, y, thing, *, speakers=None)"},
+    books: {"book": "(world, *, speakers=None)", "first_in": "(book, x, y)"},
+    bookcheck: {"shows_book": "(world, thing, *, speakers=None)", "shows_book_after": "(world, event, thing)"},
+    leftovers: {"event_in": "(world, event)", "remaining": "(world, event)"},
+    talks: {"talk": "(world, x, y, *, speakers=None)", "shows_talk": "(world, x, y, thing, *, speakers=None)",
+            "meeting": "(world, hosts, *, speakers=None)", "even": "(world, x, y, *, speakers=None)"},
+    families: {"least_sets": "(items, holds)", "blockers": "(sets)"},
+    questions: {"set_up": "(world, question, items)", "family": "(world, x, y, question)",
+                "shown_family": "(world, x, y, question)"},
+    speakers: {"least_speakers": "(world, x, y)", "needed": "(world, x, y)"},
 }
 CLASSES = {
     (kinds, "Kind"): {"": "(lends, lets, *, turns=False, rests=None)", "within": "(self, other)", "read": "(text)"},
@@ -37,6 +50,7 @@ CLASSES = {
     (closure, "Closure"): {
         "": "(world, *, speakers=None, forgets=())", "told_in": "(self, name)", "first": "(self, x, y)",
         "heard": "(self, x, y)", "known": "(self, number)", "arrivals": "(self)"},
+    (agents, "Agent"): {"": "(world, x, y, helper)", "step": "(self)", "run": "(self)", "twin": "(self)"},
 }
 
 
@@ -66,6 +80,15 @@ class ObjectsTest(Checks, unittest.TestCase):
         for got in (ONE.parts, ONE.gates, ONE.hosts, ONE.chain("x"), ONE.stations(""), net.log, net.told,
                     net.entries("a"), net.known_names, one.speakers, one.names, one.known(2), plans.reach(ONE, "x", "y")):
             self.assert_frozen(got)
+        agent = agents.Agent(ONE, "x", "y", "p")
+        for got in (late.late(ONE, "x", "y"), books.book(ONE), leftovers.remaining(ONE, ("falls", "a")),
+                    talks.talk(ONE, "x", "y"), talks.talk(STRICT, "x", "y"), talks.meeting(ONE, ["x", "y"]),
+                    talks.even(ONE, "x", "p"), agent.step(), agent.learned, agent.result, agent.twin().step(),
+                    families.least_sets(["a"], len), families.blockers([("a", "b")]),
+                    questions.set_up(ONE, "speakers", ["x"])[1], questions.family(ONE, "x", "y", "gates"),
+                    questions.shown_family(ONE, "x", "y", "speakers"), speakers.least_speakers(ONE, "x", "y"),
+                    speakers.needed(ONE, "x", "y")):
+            self.assert_frozen(got)
 
     def assert_frozen(self, value):
         self.assertIsInstance(value, (tuple, str, int, Kind, type(None)))
@@ -74,26 +97,39 @@ class ObjectsTest(Checks, unittest.TestCase):
                 self.assert_frozen(part)
 
     def test_arguments_stay_as_they_are(self):
-        speakers = ["y", "x", "p", "x"]
+        given = ["y", "x", "p", "x"]
         forgets = ["b", "a"]
         sends = [("y", ("own", 1)), ("x", ("own", 1))]
-        Closure(ONE, speakers=speakers, forgets=forgets)
-        plans.reach(ONE, "x", "y", speakers=speakers)
+        Closure(ONE, speakers=given, forgets=forgets)
+        plans.reach(ONE, "x", "y", speakers=given)
         packets.walk(ONE, sends, "x", ("own", 1), forgets=forgets)
-        self.assertEqual((speakers, forgets), (["y", "x", "p", "x"], ["b", "a"]))
+        plancheck.shows_plan(ONE, "x", "y", plans.reach(ONE, "x", "y")[1], speakers=given)
+        latecheck.shows_late(ONE, "x", "y", late.late(ONE, "x", "y", speakers=given), speakers=given)
+        bookcheck.shows_book(ONE, books.book(ONE, speakers=given), speakers=given)
+        list(late.reasons(STRICT, "x", "y", speakers=given))
+        talks.shows_talk(ONE, "x", "y", talks.talk(ONE, "x", "y", speakers=given), speakers=given)
+        talks.even(ONE, "x", "y", speakers=given)
+        talks.meeting(ONE, given, speakers=given)
+        questions.set_up(ONE, "speakers", given)
+        questions.set_up(ONE, "gates", forgets)
+        questions.set_up(ONE, "helpers", forgets)
+        self.assertEqual((given, forgets), (["y", "x", "p", "x"], ["b", "a"]))
         self.assertEqual(sends, [("y", ("own", 1)), ("x", ("own", 1))])
 
     def test_a_closure_does_not_depend_on_later_lists(self):
-        speakers = ["x"]
-        one = Closure(ONE, speakers=speakers)
-        speakers.append("y")
+        given = ["x"]
+        one = Closure(ONE, speakers=given)
+        given.append("y")
         self.assertEqual((one.speakers, one.first("y", "p")), (("x",), None))
 
     def test_the_same_is_returned_each_time(self):
         for world in (ONE, INNER, SIX):
             for x in world.hosts:
                 for y in world.hosts:
-                    self.assert_same(plans.reach(world, x, y), plans.reach(World(*world.parts), x, y))
+                    for ask in (plans.reach, late.late, speakers.least_speakers):
+                        self.assert_same(ask(world, x, y), ask(World(*world.parts), x, y))
+                    if x != y:
+                        self.assert_same(talks.talk(world, x, y), talks.talk(World(*world.parts), x, y))
 
     def test_questions_take_any_value_without_other_errors(self):
         for value in any_values():
@@ -103,6 +139,10 @@ class ObjectsTest(Checks, unittest.TestCase):
             self.assertIn(Kind("one", "any") == value, (True, False))
             self.assertIn(NamedNet(ONE) == value, (True, False))
             self.assertIsNone(ONE.station("", value) if not isinstance(value, int) else None)
+            for ask in (plancheck.shows_plan, latecheck.shows_late, talks.shows_talk):
+                self.assertIs(ask(ONE, "x", "y", value), False)
+            self.assertIs(bookcheck.shows_book(ONE, value), False)
+            self.assertIs(bookcheck.shows_book_after(ONE, ("falls", "a"), value), False)
 
 
 if __name__ == "__main__":

@@ -17,6 +17,10 @@ INTERFACE = {
     "kinds": "Kind", "worlds": "World", "routes": "way hidden reachable free_addresses", "ports": "Ports",
     "nets": "Net tried", "names": "is_name address_of is_plain owner fold depth sources show_name read_name",
     "named": "NamedNet", "packets": "walk", "closure": "Closure", "plans": "reach play",
+    "plancheck": "shows_plan", "late": "late reasons", "latecheck": "shows_late", "books": "book first_in",
+    "bookcheck": "shows_book shows_book_after", "leftovers": "event_in remaining",
+    "talks": "talk shows_talk even meeting", "agents": "Agent", "families": "least_sets blockers",
+    "questions": "set_up family shown_family", "speakers": "least_speakers needed",
 }
 METHODS = {
     ("kinds", "Kind"): "__init__ lends lets turns rests within read __or__ __and__ __eq__ __str__ __repr__",
@@ -26,6 +30,7 @@ METHODS = {
     ("nets", "Net"): "__init__ world log told entries seen send undo twin trial __eq__",
     ("named", "NamedNet"): "send_to endpoint known_names undo twin trial",
     ("closure", "Closure"): "__init__ world speakers names rounds told_in first heard known arrivals",
+    ("agents", "Agent"): "__init__ step round learned result done run twin",
 }
 BUILTINS = set(
     "len range enumerate zip min max sum abs sorted reversed int str bool list tuple dict set isinstance ord repr any "

@@ -1,0 +1,86 @@
+"""Answers come in good time, in worlds with six gates, three within one another, and eight hosts."""
+
+import time
+import unittest
+
+from meetbehind.agents import Agent
+from meetbehind.bookcheck import shows_book, shows_book_after
+from meetbehind.books import book, first_in
+from meetbehind.kinds import Kind
+from meetbehind.late import late, reasons
+from meetbehind.latecheck import shows_late
+from meetbehind.leftovers import event_in, remaining
+from meetbehind.plancheck import shows_plan
+from meetbehind.plans import reach
+from meetbehind.questions import family, set_up, shown_family
+from meetbehind.speakers import least_speakers, needed
+from meetbehind.talks import even, meeting, shows_talk, talk
+from meetbehind.worlds import World
+from tests.samples import BIG, SIX
+
+# each gate lends much and turns, so that very many names are told
+WIDE = World(("gate", "a", "", 10, Kind("both", "any", turns=True)), ("gate", "b", "a", 11, Kind("far", "any", turns=True)),
+             ("gate", "c", "b", 12, Kind("both", "far", turns=True)), ("gate", "d", "", 13, Kind("far", "any", turns=True)),
+             ("gate", "e", "", 14, Kind("far", "far", turns=True)), ("gate", "f", "", 15, Kind("both", "any", turns=True)),
+             ("host", "s", "c", 40), ("host", "t", "f", 41), ("host", "u", "e", 42), ("host", "v", "d", 43),
+             ("host", "w", "e", 44), ("host", "x", "", 45), ("host", "y", "b", 46), ("host", "z", "a", 47))
+SECONDS = 5
+
+
+class TimesTest(unittest.TestCase):
+
+    def in_time(self, deed, *given, **named):
+        begun = time.perf_counter()
+        found = deed(*given, **named)
+        self.assertLess(time.perf_counter() - begun, SECONDS, deed.__name__)
+        return found
+
+    def test_plans_bounds_and_books(self):
+        for world in (SIX, BIG, WIDE):
+            x, y = world.hosts[0], world.hosts[1]
+            self.assertIs(self.in_time(shows_book, world, self.in_time(book, world)), True)
+            self.assertEqual(self.in_time(first_in, book(world), x, x), 1)
+            for x, y in ((x, y), (y, x), (x, world.hosts[-1])):
+                bound = self.in_time(late, world, x, y)
+                self.assertIs(self.in_time(shows_late, world, x, y, bound), True)
+                word, rows = reach(world, x, y)
+                if word == "never":
+                    self.in_time(lambda: list(reasons(world, x, y)))
+                else:
+                    self.assertIs(self.in_time(shows_plan, world, x, y, rows), True)
+
+    def test_leftovers(self):
+        for world in (SIX, BIG, WIDE):
+            host = world.hosts[0]
+            realms = [realm for realm in world.gates if world.station(realm, world.address(host)) is None]
+            for event in [("falls", gate) for gate in world.gates] + [("moves", host, realm) for realm in realms]:
+                after = self.in_time(event_in, world, event)
+                self.in_time(remaining, world, event)
+                self.assertIn(self.in_time(shows_book_after, world, event, book(after)), (True, False))
+
+    def test_talks(self):
+        for world in (SIX, BIG, WIDE):
+            x, y = world.hosts[0], world.hosts[1]
+            self.assertIs(self.in_time(shows_talk, world, x, y, self.in_time(talk, world, x, y)), True)
+            self.in_time(even, world, x, y)
+            self.in_time(meeting, world, world.hosts)
+            helper = [name for name in world.hosts if world.realm(name) == "" and name not in (x, y)][0]
+            self.in_time(lambda: list(Agent(world, x, y, helper).run()))
+
+    def test_families(self):
+        for world in (SIX, BIG, WIDE):
+            x, y = world.hosts[0], world.hosts[1]
+            self.in_time(least_speakers, world, x, y)
+            if self.in_time(least_speakers, world, x, x):
+                self.in_time(needed, world, x, x)
+            for question in ("speakers", "gates"):
+                self.in_time(family, world, x, y, question)
+                self.in_time(shown_family, world, x, y, question)
+                self.in_time(set_up, world, question, ())
+            fewer = World(*[part for part in world.parts if part[0] == "gate"], ("host", "x", world.gates[2], 90))
+            self.in_time(family, fewer, "x", "x", "helpers")
+            self.in_time(shown_family, fewer, "x", "x", "helpers")
+
+
+if __name__ == "__main__":
+    unittest.main()
