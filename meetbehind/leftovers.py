@@ -50,7 +50,7 @@ class Leftovers:
         self.left = {self._rest_of(name): True for name in course.since if not self._is_dead(name)}
         self.opened = {}
         for entry, target in course.opened:
-            # a dead name counts as a blind one, which needs not be kept: no packet comes from it
+            # a dead name counts as a blind one, which need not be kept: no packet comes from it
             if not self._is_dead(entry) and not (isinstance(target, tuple) and self._is_dead(target)):
                 self.opened[(self._rest_of(entry), self._rest_of_target(target))] = True
 
