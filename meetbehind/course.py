@@ -1,7 +1,7 @@
 """The rounds of a world, done until nothing more can happen."""
 
 from meetbehind.names import show_name
-from meetbehind.naming import known_at_first, lent_chain
+from meetbehind.naming import can_be_told, known_at_first
 from meetbehind.packets import is_shut, opening, openings, Packet
 
 
@@ -59,16 +59,11 @@ class Course:
         for packet in sorted(packets, key=lambda one: (one.host, show_name(one.name))):
             source = packet.shows[-1]
             self.rows.append((number, packet.host, packet.name, packet.end[1], source))
-            if packet.end[1] in self._speakers and self._can_be_told(source) and source not in self.since:
+            if packet.end[1] in self._speakers and can_be_told(source, self._forgets) and source not in self.since:
                 self.since[source] = number
                 self.tellers[source] = (packet.host, packet.name)
                 fresh.append(source)
         return sorted(fresh, key=show_name)
-
-    def _can_be_told(self, name):
-        """Whether a name is lent, and by no gate that forgets."""
-        gates = [lent[1] for lent in lent_chain(name)]
-        return gates != [] and not any([gate in self._forgets for gate in gates])
 
     def first_row(self, x, y):
         """The first row in which y hears x, or None."""
@@ -76,6 +71,11 @@ class Course:
             if row[1] == x and row[3] == y:
                 return row
         return None
+
+
+def is_heard(world, x, y):
+    """Whether y hears x in some round if all hosts speak."""
+    return Course(world, world.hosts, ()).first_row(x, y) is not None
 
 
 def needs_of(world, packet, forgets):

@@ -18,7 +18,7 @@ class NamedNet(Net):
 
     def endpoint(self, name):
         """The endpoint for which a name stands."""
-        check_name(self._world, name)
+        check_name(self.world, name)
         if name[0] == "own":
             return (name[1], HOST_PORT)
         if name[0] == "blind":
@@ -29,11 +29,11 @@ class NamedNet(Net):
 
     def send_to(self, host, name):
         """Sends a packet to the endpoint for which a name stands, and tells what becomes of it."""
-        check_host(self._world, host)
+        check_host(self.world, host)
         result = self.send(host, self.endpoint(name))
         if result[0] == "lost":
             return result
-        source = sources(self._world, host, name)[-1]
+        source = sources(self.world, host, name)[-1]
         if source[0] == "lent" and source not in self.state.shown:
             # the number of packets tells undo whether this one was taken back
             self.state.shown[source] = (result[2], len(self.state.rows))
@@ -48,7 +48,7 @@ class NamedNet(Net):
 
     def twin(self):
         """An equal network that knows the same names, independent of this one."""
-        other = NamedNet(self._world, choose=self._choose)
+        other = NamedNet(self.world, choose=self._choose)
         other.state = self.state.copied()
         return other
 

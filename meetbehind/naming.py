@@ -46,6 +46,12 @@ def lent_chain(name):
     return chain
 
 
+def can_be_told(name, forgets):
+    """Whether a name is lent, and by no gate that forgets."""
+    gates = [lent[1] for lent in lent_chain(name)]
+    return gates != [] and not any([gate in forgets for gate in gates])
+
+
 def owner_of(world, name):
     """The host from which the packets come that show a lent name; None for other names."""
     chain = lent_chain(name)

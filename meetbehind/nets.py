@@ -16,15 +16,14 @@ class Net:
     """The network of a world, in which packets are sent one after another."""
 
     def __init__(self, world, *, choose=None):
-        self._world = world
         self._choose = Ports() if choose is None else choose
         # all that changes is kept here, so that a trial can put it back
-        self.state = State(world.gates)
+        self.state = State(world)
 
     @property
     def world(self):
         """The world of the network."""
-        return self._world
+        return self.state.present
 
     @property
     def log(self):
@@ -39,31 +38,29 @@ class Net:
 
     def entries(self, gate):
         """The entries of a gate, ascending by port."""
-        if gate not in self._world.gates:
+        if gate not in self.world.gates:
             raise NoStation(gate)
-        rows = [entry.as_row() for entry in list(self.state.tables[gate].by_key.values())]
-        return tuple(sorted(rows, key=lambda row: row[2]))
+        return self.state.tables[gate].as_rows(self.state.time)
 
     def seen(self, host):
         """The pairs (sender, source) of the packets that a host heard, in order."""
-        check_host(self._world, host)
+        check_host(self.world, host)
         for sender, _, result in self.log:
             if result[0] == "heard" and result[1] == host:
                 yield (sender, result[2])
 
     def send(self, host, target):
         """Sends a packet and tells what becomes of it."""
-        check_host(self._world, host)
+        check_host(self.world, host)
         if not is_endpoint(target):
             raise InvalidTarget(target)
-        course = route(self._world, self._world.realm(host), target[0])
+        course = route(self.world, self.world.realm(host), target[0])
         # nothing changes before all ports are chosen, as choosing one may fail
-        uses = self._uses(host, gates_out(self._world, course), target)
+        uses = self._uses(host, gates_out(self.world, course), target)
         changes = self._go_out(uses, target)
         source = self._source(host, uses)
         result = self._arrive(course, source, target)
-        self.state.rows.append((host, target, result))
-        self.state.changes.append(changes)
+        self.state.take_down((host, target, result), changes)
         return result
 
     def _uses(self, host, gates, target):
@@ -71,8 +68,8 @@ class Net:
         uses = []
         for gate in gates:
             inner = self._source(host, uses)
-            key = _key(self._world.kind(gate), target)
-            entry = self.state.tables[gate].by_key.get((inner, key))
+            key = _key(self.world.kind(gate), target)
+            entry = self.state.tables[gate].entry_for(inner, key, self.state.time)
             port = self._new_port(gate) if entry is None else entry.port
             uses.append((gate, inner, key, port))
         return uses
@@ -80,9 +77,9 @@ class Net:
     def _source(self, host, uses):
         """The source that a packet of the host shows behind these entries."""
         if not uses:
-            return (self._world.address(host), HOST_PORT)
+            return (self.world.address(host), HOST_PORT)
         gate, _, _, port = uses[-1]
-        return (self._world.address(gate), port)
+        return (self.world.address(gate), port)
 
     def _new_port(self, gate):
         """The port that is chosen for a new entry of the gate."""
@@ -97,9 +94,9 @@ class Net:
         """Sends a packet out by these entries; the changes that this makes."""
         changes = []
         for gate, inner, key, port in uses:
-            change = self.state.tables[gate].use(inner, key, port, target)
+            change = self.state.tables[gate].use(inner, key, port, target, self.state.time)
             if change is not None:
-                changes.append((gate, change, inner, key, target))
+                changes.append((gate, change))
         return changes
 
     def _arrive(self, course, source, target):
@@ -107,16 +104,16 @@ class Net:
         word, _, place = course
         if word == "nowhere":
             return ("lost", "nowhere", "")
-        if word == "turn" and not self._world.kind(place).turns:
+        if word == "turn" and not self.world.kind(place).turns:
             return ("lost", "unturned", place)
-        while place in self._world.gates:
-            entry = self.state.tables[place].by_port.get(target[1])
+        while place in self.world.gates:
+            entry = self.state.tables[place].entry_at(target[1], self.state.time)
             if entry is None:
                 return ("lost", "closed", place)
-            if not entry.opens(self._world.kind(place).lets, source):
+            if not entry.opens(self.world.kind(place).lets, source):
                 return ("lost", "barred", place)
             target = entry.inner
-            place = self._world.station(place, target[0])
+            place = self.world.station(place, target[0])
         if target[1] != HOST_PORT:
             return ("lost", "port", place)
         return ("heard", place, source)
@@ -130,7 +127,7 @@ class Net:
 
     def twin(self):
         """An equal network with the same choose and the same used ports, independent of this one."""
-        other = Net(self._world, choose=self._choose)
+        other = Net(self.world, choose=self._choose)
         other.state = self.state.copied()
         return other
 
@@ -139,10 +136,7 @@ class Net:
         return Trial(self)
 
     def __eq__(self, other):
-        if not isinstance(other, Net) or self.__class__.__name__ != other.__class__.__name__:
-            return False
-        return (self._world == other._world and self.log == other.log
-                and _all_entries(self) == _all_entries(other))
+        return isinstance(other, Net) and are_alike(self, other)
 
 
 def _key(kind, target):
@@ -150,6 +144,12 @@ def _key(kind, target):
     if kind.lends == "one":
         return None
     return target[0] if kind.lends == "far" else target
+
+
+def are_alike(one, two):
+    """Whether two networks are of one class and have the same world, log and entries."""
+    return (one.__class__.__name__ == two.__class__.__name__ and one.world == two.world and one.log == two.log
+            and _all_entries(one) == _all_entries(two))
 
 
 def _all_entries(net):

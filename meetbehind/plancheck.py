@@ -4,6 +4,7 @@ from meetbehind.checks import is_round
 from meetbehind.given import check_host, given_speakers
 from meetbehind.judge import Judge
 from meetbehind.names import is_name, show_name
+from meetbehind.naming import can_be_told
 from meetbehind.packets import Packet
 
 
@@ -14,23 +15,23 @@ def shows_plan(world, x, y, thing, *, speakers=None):
     return is_plan_for(world, given_speakers(world, speakers), x, y, thing)
 
 
-def is_plan_for(world, speakers, x, y, thing):
-    """Whether any value is a plan of these speakers in whose last round y hears x."""
-    heard = heard_in_plan(world, speakers, thing)
+def is_plan_for(world, speakers, x, y, thing, forgets=()):
+    """Whether any value is a plan of these speakers, while these gates forget, in whose last round y hears x."""
+    heard = heard_in_plan(world, speakers, thing, forgets)
     return heard is not None and heard.get((x, y)) == thing[-1][0]
 
 
-def heard_in_plan(world, speakers, thing):
+def heard_in_plan(world, speakers, thing, forgets=()):
     """A dict from the pairs of a sender and a host that hears it to the last round in which it does so.
 
-    None for any value that is no plan of these speakers.
+    None for any value that is no plan of these speakers, while these gates forget.
     """
     if not _has_form(world, speakers, thing):
         return None
     by_round = {}
     for number, host, name in thing:
-        by_round.setdefault(number, []).append(Packet(world, host, name, ()))
-    judge = Judge(world)
+        by_round.setdefault(number, []).append(Packet(world, host, name, forgets))
+    judge = Judge(world, forgets)
     seen_names = {}
     heard = {}
     for number in by_round:
@@ -40,7 +41,7 @@ def heard_in_plan(world, speakers, thing):
         for packet in judge.do_round(packets):
             hearer = packet.end[1]
             heard[(packet.host, hearer)] = number
-            if hearer in speakers:
+            if hearer in speakers and can_be_told(packet.shows[-1], forgets):
                 seen_names[packet.shows[-1]] = True
     return heard
 

@@ -18,7 +18,7 @@ HELPERS = "helpers"
 
 def set_up(world, question, items):
     """The world and the speakers of a set of items."""
-    every = _items_of(world, question)
+    every = items_of(world, question)
     chosen = given_among(items, every)
     _check_many(world, question)
     return _set_up(world, question, chosen)
@@ -26,14 +26,14 @@ def set_up(world, question, items):
 
 def family(world, x, y, question):
     """The least sets with which y hears x, and their blockers."""
-    _check_family(world, x, y, question)
+    check_family(world, x, y, question)
     least = _least(world, x, y, question)
     return (least, blockers(least))
 
 
 def shown_family(world, x, y, question):
     """Plans for the least sets with which y hears x, and bounds for all items without those of each blocker."""
-    _check_family(world, x, y, question)
+    check_family(world, x, y, question)
     least = _least(world, x, y, question)
     plans = []
     for part in least:
@@ -41,13 +41,13 @@ def shown_family(world, x, y, question):
         plans.append((part, reach(other, x, y, speakers=speakers)[1]))
     bounds = []
     for part in blockers(least):
-        rest = tuple([item for item in _items_of(world, question) if item not in part])
+        rest = tuple([item for item in items_of(world, question) if item not in part])
         other, speakers = _set_up(world, question, rest)
         bounds.append((part, late(other, x, y, speakers=speakers)))
     return (tuple(plans), tuple(bounds))
 
 
-def _items_of(world, question):
+def items_of(world, question):
     """The items of a question, ascending; raises for any value that is none."""
     if question == SPEAKERS:
         return world.hosts
@@ -60,13 +60,13 @@ def _items_of(world, question):
 
 def _check_many(world, question):
     """Raises if there is no room for a helper in each realm."""
-    if question == HELPERS and len(world.hosts) + len(_items_of(world, question)) > World.MOST_HOSTS:
+    if question == HELPERS and len(world.hosts) + len(items_of(world, question)) > World.MOST_HOSTS:
         raise TooMany(World.MOST_HOSTS)
 
 
-def _check_family(world, x, y, question):
+def check_family(world, x, y, question):
     """Raises what is wrong with a question for x and y."""
-    _items_of(world, question)
+    items_of(world, question)
     check_host(world, x)
     check_host(world, y)
     _check_many(world, question)
@@ -103,7 +103,7 @@ def _with_helper(world, realm):
 
 def _least(world, x, y, question):
     """The least sets with which y hears x."""
-    return least_sets(_items_of(world, question), lambda items: _is_heard(world, x, y, question, items))
+    return least_sets(items_of(world, question), lambda items: _is_heard(world, x, y, question, items))
 
 
 def _is_heard(world, x, y, question, items):

@@ -445,3 +445,37 @@ class AgentModel:
         """Whether nothing new was delivered in the last round."""
         earlier = {row[:2] for rows in self.rounds[:-1] for row in rows}
         return all(row[:2] in earlier for row in self.rounds[-1])
+
+
+class RestModel(PortModel):
+    """A network with time, of which all is kept as it was before each packet."""
+
+    def __init__(self, world, ports):
+        super().__init__(world, ports)
+        self.now = 0
+        self.lasts = {}
+
+    def undo(self, count):
+        for _ in range(count):
+            self.entries, self.lasts, self.now, self.map = self.befores.pop()
+            self.log.pop()
+
+    def send(self, host, target):
+        before = (self.copied_entries(), dict(self.lasts), self.now, self.map)
+        result = super().send(host, target)
+        self.befores[-1] = before
+        return result
+
+    def go_out(self, gate, source, target):
+        shown = super().go_out(gate, source, target)
+        self.lasts[(gate, shown[1])] = self.now
+        return shown
+
+    def wait(self, units):
+        self.now += units
+        rests = {gate: kind.rests for gate, kind in self.map.kinds.items()}
+        self.entries = [entry for entry in self.entries if rests[entry[0]] is None
+                        or self.lasts[(entry[0], entry[3])] + rests[entry[0]] > self.now]
+
+    def fall(self, gate):
+        self.entries = [entry for entry in self.entries if entry[0] != gate]

@@ -7,6 +7,7 @@ from meetbehind.kinds import Kind
 from meetbehind.named import NamedNet
 from meetbehind.nets import Net
 from meetbehind.ports import Ports
+from meetbehind.restnets import RestNet
 from meetbehind.worlds import World
 
 ONE = World(("gate", "a", "", 5, Kind("both", "any")), ("gate", "b", "", 7, Kind("both", "far")),
@@ -57,8 +58,9 @@ def any_values():
         "abcdefgh", "abcdefghi", "a b", "x\n", "\n", "1", "10", "one", "one/any", "z" * 4000, (), (1,), (1, 1), (5, True),
         (True, 5), ("x",), ("own", 10), ("own", True), ("blind", 5), ["own", 10], [], [1], ["x"], {}, {"x": 1}, set(),
         {1, 2}, {"x"}, nested("x", 19), [[[["x"]]]], ("host", "x", "", 1), Kind("one", "any"), World(), ONE, Net(ONE),
-        NamedNet(ONE), Agent(ONE, "x", "y", "p"), Ports(), Ports(2, 3), NoStation("x"), InvalidKind(0), Closure(ONE), Net(ONE).trial(), A1, list(A1),
-        B5, ("lent", "b", ["own", 10], 5), ("lent", "b", ("own", 10), True), ("lent", "b", ("own", 10), None),
+        NamedNet(ONE), RestNet(ONE), Agent(ONE, "x", "y", "p"), Ports(), Ports(2, 3), NoStation("x"), InvalidKind(0),
+        Closure(ONE), Net(ONE).trial(), A1, list(A1), B5, ("lent", "b", ["own", 10], 5),
+        ("lent", "b", ("own", 10), True), ("lent", "b", ("own", 10), None),
     ]
 
 

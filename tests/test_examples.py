@@ -1,10 +1,12 @@
 """The examples of the document, word for word, as far as it is built.
 
 >>> from meetbehind.agents import Agent
+>>> from meetbehind.beats import slowest
 >>> from meetbehind.bookcheck import shows_book
 >>> from meetbehind.books import book, first_in
 >>> from meetbehind.closure import Closure
 >>> from meetbehind.families import blockers
+>>> from meetbehind.gatekinds import kinds_for
 >>> from meetbehind.kinds import Kind
 >>> from meetbehind.late import late, reasons
 >>> from meetbehind.leftovers import remaining
@@ -15,6 +17,8 @@
 >>> from meetbehind.plans import play, reach
 >>> from meetbehind.ports import Ports
 >>> from meetbehind.questions import family
+>>> from meetbehind.relays import groups, relays
+>>> from meetbehind.repairs import repairs
 >>> from meetbehind.routes import hidden, reachable, way
 >>> from meetbehind.speakers import least_speakers, needed
 >>> from meetbehind.talks import even, shows_talk
@@ -69,14 +73,20 @@ True
 >>> [len([step for step in agent.run()]), agent.result[0], show_name(agent.result[1]), show_name(agent.result[2])]
 [3, 3, 'b(10)', 'a(10|b(10))']
 
->>> [least_speakers(ONE, "x", "y"), needed(ONE, "y", "x")]
-[(('p', 'x', 'y'),), ('p', 'x', 'y')]
+>>> [least_speakers(ONE, "x", "y"), needed(ONE, "y", "x"), relays(ONE, "x", "y"), groups(ONE), \
+repairs(ONE.with_kind("b", Kind("both", "both")), "x", "y")]
+[(('p', 'x', 'y'),), ('p', 'x', 'y'), ('p',), (('p', 'x', 'y'),), (('a',), ('b',))]
+
+>>> REST = ONE.with_kind("a", Kind("both", "any", rests=30)).with_kind("b", Kind("both", "far", rests=20))
+>>> [slowest(REST, "y", "x")[:2], slowest(REST, "x", "y")[:2]]
+[('beat', 29), ('beat', 19)]
 
 >>> [first_in(book(ONE), "x", "y"), len(book(ONE)[0]), shows_book(ONE, book(ONE)), shows_book(STRICT, book(ONE))]
 [3, 4, True, False]
 
->>> [blockers((("a",), ("b", "c"))), family(STRICT, "x", "y", "gates"), family(STRICT, "x", "y", "helpers")]
-[(('a', 'b'), ('a', 'c')), ((('a',), ('b',)), (('a', 'b'),)), ((), ((),))]
+>>> [blockers((("a",), ("b", "c"))), family(STRICT, "x", "y", "gates"), family(STRICT, "x", "y", "helpers"), \
+[str(kind) for kind in kinds_for(ONE, "b", "x", "y")[0]]]
+[(('a', 'b'), ('a', 'c')), ((('a',), ('b',)), (('a', 'b'),)), ((), ((),)), ['both/far']]
 
 >>> DRIFT = World(("gate", "a", "", 5, Kind("one", "any")), ("gate", "b", "", 7, Kind("both", "far")),
 ...     ("host", "x", "a", 10), ("host", "y", "b", 11), ("host", "p", "", 1))

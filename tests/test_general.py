@@ -3,8 +3,9 @@
 import inspect
 import unittest
 
-from meetbehind import (agents, bookcheck, books, closure, families, kinds, late, latecheck, leftovers, named, names,
-                        nets, packets, plancheck, plans, ports, questions, routes, speakers, talks, worlds)
+from meetbehind import (agents, beats, bookcheck, books, closure, families, familycheck, gatekinds, kinds, late,
+                        latecheck, leftovers, named, names, nets, packets, plancheck, plans, ports, questions, relays,
+                        repairs, restnets, routes, speakers, talks, worlds)
 from meetbehind.closure import Closure
 from meetbehind.kinds import Kind
 from meetbehind.named import NamedNet
@@ -32,6 +33,12 @@ FUNCTIONS = {
     questions: {"set_up": "(world, question, items)", "family": "(world, x, y, question)",
                 "shown_family": "(world, x, y, question)"},
     speakers: {"least_speakers": "(world, x, y)", "needed": "(world, x, y)"},
+    relays: {"relays": "(world, x, y)", "groups": "(world)"},
+    repairs: {"repairs": "(world, x, y)", "opened": "(world, gates)"},
+    familycheck: {"shows_family": "(world, x, y, question, thing)"},
+    gatekinds: {"kinds_for": "(world, gate, x, y)", "shown_kinds": "(world, gate, x, y)",
+                "shows_kinds": "(world, gate, x, y, thing)"},
+    beats: {"slowest": "(world, x, y, *, speakers=None)", "shows_beat": "(world, x, y, thing, *, speakers=None)"},
 }
 CLASSES = {
     (kinds, "Kind"): {"": "(lends, lets, *, turns=False, rests=None)", "within": "(self, other)", "read": "(text)"},
@@ -47,6 +54,9 @@ CLASSES = {
         "": "(world, *, choose=None)", "send": "(self, host, target)", "entries": "(self, gate)", "seen": "(self, host)",
         "undo": "(self, count=1)", "twin": "(self)", "trial": "(self)", "send_to": "(self, host, name)",
         "endpoint": "(self, name)"},
+    (restnets, "RestNet"): {
+        "": "(world, *, choose=None)", "send": "(self, host, target)", "entries": "(self, gate)", "seen": "(self, host)",
+        "undo": "(self, count=1)", "twin": "(self)", "trial": "(self)", "wait": "(self, units)", "fall": "(self, gate)"},
     (closure, "Closure"): {
         "": "(world, *, speakers=None, forgets=())", "told_in": "(self, name)", "first": "(self, x, y)",
         "heard": "(self, x, y)", "known": "(self, number)", "arrivals": "(self)"},
@@ -87,8 +97,17 @@ class ObjectsTest(Checks, unittest.TestCase):
                     families.least_sets(["a"], len), families.blockers([("a", "b")]),
                     questions.set_up(ONE, "speakers", ["x"])[1], questions.family(ONE, "x", "y", "gates"),
                     questions.shown_family(ONE, "x", "y", "speakers"), speakers.least_speakers(ONE, "x", "y"),
-                    speakers.needed(ONE, "x", "y")):
+                    speakers.needed(ONE, "x", "y"), relays.relays(ONE, "x", "y"), relays.groups(ONE),
+                    repairs.repairs(STRICT, "x", "y"), gatekinds.kinds_for(ONE, "a", "y", "x"),
+                    gatekinds.shown_kinds(ONE, "a", "y", "x"), beats.slowest(ONE, "x", "y"), beats.slowest(STRICT, "x", "y"),
+                    self.rest_net().log, self.rest_net().entries("a"), self.rest_net().now):
             self.assert_frozen(got)
+
+    def rest_net(self):
+        net = restnets.RestNet(ONE)
+        net.send("x", (1, 1))
+        net.wait(3)
+        return net
 
     def assert_frozen(self, value):
         self.assertIsInstance(value, (tuple, str, int, Kind, type(None)))
@@ -113,6 +132,8 @@ class ObjectsTest(Checks, unittest.TestCase):
         questions.set_up(ONE, "speakers", given)
         questions.set_up(ONE, "gates", forgets)
         questions.set_up(ONE, "helpers", forgets)
+        repairs.opened(ONE, forgets)
+        beats.shows_beat(ONE, "x", "y", beats.slowest(ONE, "x", "y", speakers=given), speakers=given)
         self.assertEqual((given, forgets), (["y", "x", "p", "x"], ["b", "a"]))
         self.assertEqual(sends, [("y", ("own", 1)), ("x", ("own", 1))])
 
@@ -126,7 +147,7 @@ class ObjectsTest(Checks, unittest.TestCase):
         for world in (ONE, INNER, SIX):
             for x in world.hosts:
                 for y in world.hosts:
-                    for ask in (plans.reach, late.late, speakers.least_speakers):
+                    for ask in (plans.reach, late.late, speakers.least_speakers, repairs.repairs, relays.relays, beats.slowest):
                         self.assert_same(ask(world, x, y), ask(World(*world.parts), x, y))
                     if x != y:
                         self.assert_same(talks.talk(world, x, y), talks.talk(World(*world.parts), x, y))
@@ -138,9 +159,13 @@ class ObjectsTest(Checks, unittest.TestCase):
             self.assertIn(ONE == value, (True, False))
             self.assertIn(Kind("one", "any") == value, (True, False))
             self.assertIn(NamedNet(ONE) == value, (True, False))
+            self.assertIn(restnets.RestNet(ONE) == value, (True, False))
             self.assertIsNone(ONE.station("", value) if not isinstance(value, int) else None)
-            for ask in (plancheck.shows_plan, latecheck.shows_late, talks.shows_talk):
+            for ask in (plancheck.shows_plan, latecheck.shows_late, talks.shows_talk, beats.shows_beat):
                 self.assertIs(ask(ONE, "x", "y", value), False)
+            for question in ("speakers", "gates", "helpers"):
+                self.assertIs(familycheck.shows_family(ONE, "x", "y", question, value), False)
+            self.assertIs(gatekinds.shows_kinds(ONE, "a", "x", "y", value), False)
             self.assertIs(bookcheck.shows_book(ONE, value), False)
             self.assertIs(bookcheck.shows_book_after(ONE, ("falls", "a"), value), False)
 

@@ -20,7 +20,9 @@ INTERFACE = {
     "plancheck": "shows_plan", "late": "late reasons", "latecheck": "shows_late", "books": "book first_in",
     "bookcheck": "shows_book shows_book_after", "leftovers": "event_in remaining",
     "talks": "talk shows_talk even meeting", "agents": "Agent", "families": "least_sets blockers",
-    "questions": "set_up family shown_family", "speakers": "least_speakers needed",
+    "questions": "set_up family shown_family", "speakers": "least_speakers needed", "relays": "relays groups",
+    "repairs": "repairs opened", "familycheck": "shows_family", "gatekinds": "kinds_for shown_kinds shows_kinds",
+    "restnets": "RestNet", "beats": "slowest shows_beat",
 }
 METHODS = {
     ("kinds", "Kind"): "__init__ lends lets turns rests within read __or__ __and__ __eq__ __str__ __repr__",
@@ -29,6 +31,7 @@ METHODS = {
     ("ports", "Ports"): "__init__ numbers __call__",
     ("nets", "Net"): "__init__ world log told entries seen send undo twin trial __eq__",
     ("named", "NamedNet"): "send_to endpoint known_names undo twin trial",
+    ("restnets", "RestNet"): "now wait fall entries log undo twin trial __eq__",
     ("closure", "Closure"): "__init__ world speakers names rounds told_in first heard known arrivals",
     ("agents", "Agent"): "__init__ step round learned result done run twin",
 }

@@ -4,8 +4,11 @@ import time
 import unittest
 
 from meetbehind.agents import Agent
+from meetbehind.beats import shows_beat, slowest
 from meetbehind.bookcheck import shows_book, shows_book_after
 from meetbehind.books import book, first_in
+from meetbehind.familycheck import shows_family
+from meetbehind.gatekinds import kinds_for, shown_kinds, shows_kinds
 from meetbehind.kinds import Kind
 from meetbehind.late import late, reasons
 from meetbehind.latecheck import shows_late
@@ -13,6 +16,9 @@ from meetbehind.leftovers import event_in, remaining
 from meetbehind.plancheck import shows_plan
 from meetbehind.plans import reach
 from meetbehind.questions import family, set_up, shown_family
+from meetbehind.relays import groups, relays
+from meetbehind.repairs import opened, repairs
+from meetbehind.restnets import RestNet
 from meetbehind.speakers import least_speakers, needed
 from meetbehind.talks import even, meeting, shows_talk, talk
 from meetbehind.worlds import World
@@ -75,11 +81,48 @@ class TimesTest(unittest.TestCase):
                 self.in_time(needed, world, x, x)
             for question in ("speakers", "gates"):
                 self.in_time(family, world, x, y, question)
-                self.in_time(shown_family, world, x, y, question)
+                thing = self.in_time(shown_family, world, x, y, question)
+                self.assertIs(self.in_time(shows_family, world, x, y, question, thing), True)
                 self.in_time(set_up, world, question, ())
             fewer = World(*[part for part in world.parts if part[0] == "gate"], ("host", "x", world.gates[2], 90))
             self.in_time(family, fewer, "x", "x", "helpers")
-            self.in_time(shown_family, fewer, "x", "x", "helpers")
+            thing = self.in_time(shown_family, fewer, "x", "x", "helpers")
+            self.assertIs(self.in_time(shows_family, fewer, "x", "x", "helpers", thing), True)
+
+    def test_relays_repairs_kinds_and_beats(self):
+        for world in (SIX, BIG, WIDE):
+            x, y = world.hosts[0], world.hosts[1]
+            self.in_time(groups, world)
+            self.in_time(opened, world, world.gates)
+            self.in_time(relays, world, x, y)
+            strict = World(*[part[:4] + (Kind("both", "both", rests=9 + at),) if part[0] == "gate" else part
+                             for at, part in enumerate(world.parts)])
+            for one in (world, strict):
+                for ends in ((x, y), (y, x), (x, world.hosts[-1])):
+                    self.in_time(repairs, one, *ends)
+                    self.assertIs(self.in_time(shows_beat, one, *ends, self.in_time(slowest, one, *ends)), True)
+                for gate in world.gates:
+                    self.in_time(kinds_for, one, gate, x, y)
+                    thing = self.in_time(shown_kinds, one, gate, x, y)
+                    self.assertIs(self.in_time(shows_kinds, one, gate, x, y, thing), True)
+
+    def test_nets_with_time(self):
+        for world in (SIX, BIG, WIDE):
+            resting = World(*[part[:4] + (part[4] & Kind("one", "any", turns=True, rests=50),) if part[0] == "gate" else part
+                              for part in world.parts])
+            self.in_time(self.many_packets, RestNet(resting))
+
+    def many_packets(self, net):
+        """Sends packets, waits and lets gates fall; takes all back."""
+        for number in range(600):
+            host = net.world.hosts[number * 5 % 8]
+            net.send(host, (number * 7 % 60 + 1, number % 11))
+            net.wait(1 + number % 13)
+            if number % 50 == 7:
+                net.fall(net.world.gates[number % 6])
+            net.entries(net.world.gates[number % 6])
+        net.twin().undo(300)
+        net.undo(600)
 
 
 if __name__ == "__main__":
