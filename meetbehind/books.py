@@ -7,7 +7,11 @@ from meetbehind.names import show_name
 
 def book(world, *, speakers=None):
     """The right book of a world and speakers: all lent names that are told, and all deliveries, with their rounds."""
-    course = Course(world, given_speakers(world, speakers), ())
+    return book_of(Course(world, given_speakers(world, speakers), ()))
+
+
+def book_of(course):
+    """The book of rounds that were done."""
     told = [(course.since[name], name) for name in course.since]
     return (tuple(sorted(told, key=lambda pair: (pair[0], show_name(pair[1])))), tuple(course.rows))
 

@@ -8,22 +8,24 @@ from meetbehind.packets import is_shut, opening, openings, Packet
 class Course:
     """What is told, opened and delivered in which round, if these hosts speak and these gates forget.
 
-    rows are the tuples (round, sender, name, host, source) of all deliveries, as they come; since is a dict from
-    the lent names that are told to the rounds in which they are seen first, tellers one from them to the pairs of a
-    host and a name by which they are told then; opened is a dict from what was opened to the pair of the round and
-    the name to which a packet opened it first.
+    Before the first round the lent names in left are known, and all in opened was opened. rows are the tuples
+    (round, sender, name, host, source) of all deliveries, as they come; since is a dict from the lent names that are
+    told to the rounds in which they are seen first, tellers one from them to the pairs of a host and a name by which
+    they are told then; opened is a dict from what was opened to the pair of the round and the name to which a packet
+    opened it first.
     """
 
-    def __init__(self, world, speakers, forgets):
+    def __init__(self, world, speakers, forgets, left=(), opened=()):
         self.rows = []
         self.since = {}
         self.tellers = {}
-        self.opened = {}
+        self.opened = {pair: (0, None) for pair in opened}
         self._world = world
         self._speakers = speakers
         self._forgets = forgets
+        self._left = {name: True for name in left}
         self._waiting = []
-        fresh = known_at_first(world)
+        fresh = known_at_first(world) + list(left)
         number = 0
         quiet = 0
         # a round without new names may still open entries, so the round behind it counts, too
@@ -59,11 +61,15 @@ class Course:
         for packet in sorted(packets, key=lambda one: (one.host, show_name(one.name))):
             source = packet.shows[-1]
             self.rows.append((number, packet.host, packet.name, packet.end[1], source))
-            if packet.end[1] in self._speakers and can_be_told(source, self._forgets) and source not in self.since:
+            if packet.end[1] in self._speakers and self._is_new(source):
                 self.since[source] = number
                 self.tellers[source] = (packet.host, packet.name)
                 fresh.append(source)
         return sorted(fresh, key=show_name)
+
+    def _is_new(self, source):
+        """Whether a source can be told, and was not known so far."""
+        return can_be_told(source, self._forgets) and source not in self.since and source not in self._left
 
     def first_row(self, x, y):
         """The first row in which y hears x, or None."""

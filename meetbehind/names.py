@@ -119,15 +119,19 @@ def _key_text(key):
 
 def read_name(text):
     """The name that a text writes."""
-    if not isinstance(text, str):
+    name = name_of(text) if isinstance(text, str) else None
+    if name is None:
         raise InvalidText(0, 0)
+    return name
+
+
+def name_of(text):
+    """The name that a text writes, or None if it writes none."""
     number = _address_at(text, 0)
     if number is not None and text[number[1]:] == "?":
         return ("blind", number[0])
     found = _name_at(text, 0, MOST_LENT, True)
-    if found is None or found[1] < len(text):
-        raise InvalidText(0, 0)
-    return found[0]
+    return found[0] if found is not None and found[1] == len(text) else None
 
 
 def _end_of_run(text, at, signs, most):

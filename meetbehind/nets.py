@@ -113,7 +113,11 @@ class Net:
             if not entry.opens(self.world.kind(place).lets, source):
                 return ("lost", "barred", place)
             target = entry.inner
-            place = self.world.station(place, target[0])
+            inside = self.world.station(place, target[0])
+            # where hosts move, nobody may stand there now
+            if inside is None:
+                return ("lost", "gone", place)
+            place = inside
         if target[1] != HOST_PORT:
             return ("lost", "port", place)
         return ("heard", place, source)

@@ -108,6 +108,8 @@ class PortModel:
                 lets = self.map.kinds[gate].lets
                 open_to = {"any": True, "far": any(sent[0] == source[0] for sent in entry[4]),
                            "both": source in entry[4]}[lets]
+                if open_to and (gate, entry[1][0]) not in self.map.stations:
+                    return ("lost", "gone", gate)
                 return self.move(gate, source, entry[1]) if open_to else ("lost", "barred", gate)
         return ("lost", "closed", gate)
 
@@ -448,7 +450,7 @@ class AgentModel:
 
 
 class RestModel(PortModel):
-    """A network with time, of which all is kept as it was before each packet."""
+    """A network with time in which hosts move, of which all is kept as it was before each packet."""
 
     def __init__(self, world, ports):
         super().__init__(world, ports)
@@ -479,3 +481,11 @@ class RestModel(PortModel):
 
     def fall(self, gate):
         self.entries = [entry for entry in self.entries if entry[0] != gate]
+
+    def move_host(self, host, realm):
+        """Makes a new map, as the old one is kept for packets that are taken back."""
+        moved = Map(World())
+        moved.kinds, moved.hosts, moved.addresses = self.map.kinds, self.map.hosts, self.map.addresses
+        moved.realms = {**self.map.realms, host: realm}
+        moved.stations = {(moved.realms[name], moved.addresses[name]): name for name in moved.realms}
+        self.map = moved

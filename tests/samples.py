@@ -4,10 +4,12 @@ from meetbehind.agents import Agent
 from meetbehind.closure import Closure
 from meetbehind.errors import InvalidKind, NoStation
 from meetbehind.kinds import Kind
+from meetbehind.movenets import MoveNet
 from meetbehind.named import NamedNet
 from meetbehind.nets import Net
 from meetbehind.ports import Ports
 from meetbehind.restnets import RestNet
+from meetbehind.shell import Shell
 from meetbehind.worlds import World
 
 ONE = World(("gate", "a", "", 5, Kind("both", "any")), ("gate", "b", "", 7, Kind("both", "far")),
@@ -58,8 +60,8 @@ def any_values():
         "abcdefgh", "abcdefghi", "a b", "x\n", "\n", "1", "10", "one", "one/any", "z" * 4000, (), (1,), (1, 1), (5, True),
         (True, 5), ("x",), ("own", 10), ("own", True), ("blind", 5), ["own", 10], [], [1], ["x"], {}, {"x": 1}, set(),
         {1, 2}, {"x"}, nested("x", 19), [[[["x"]]]], ("host", "x", "", 1), Kind("one", "any"), World(), ONE, Net(ONE),
-        NamedNet(ONE), RestNet(ONE), Agent(ONE, "x", "y", "p"), Ports(), Ports(2, 3), NoStation("x"), InvalidKind(0),
-        Closure(ONE), Net(ONE).trial(), A1, list(A1), B5, ("lent", "b", ["own", 10], 5),
+        NamedNet(ONE), RestNet(ONE), MoveNet(ONE), Shell(), Agent(ONE, "x", "y", "p"), Ports(), Ports(2, 3),
+        NoStation("x"), InvalidKind(0), Closure(ONE), Net(ONE).trial(), A1, list(A1), B5, ("lent", "b", ["own", 10], 5),
         ("lent", "b", ("own", 10), True), ("lent", "b", ("own", 10), None),
     ]
 

@@ -1,4 +1,4 @@
-"""The examples of the document, word for word, as far as it is built.
+"""The examples of the document, word for word, in their order.
 
 >>> from meetbehind.agents import Agent
 >>> from meetbehind.beats import slowest
@@ -10,16 +10,21 @@
 >>> from meetbehind.kinds import Kind
 >>> from meetbehind.late import late, reasons
 >>> from meetbehind.leftovers import remaining
+>>> from meetbehind.looser import joined
+>>> from meetbehind.moves import back, heard_again
 >>> from meetbehind.named import NamedNet
 >>> from meetbehind.names import fold, is_plain, owner, read_name, show_name, sources
 >>> from meetbehind.nets import Net
 >>> from meetbehind.plancheck import shows_plan
 >>> from meetbehind.plans import play, reach
+>>> from meetbehind.plantexts import show_rows
 >>> from meetbehind.ports import Ports
 >>> from meetbehind.questions import family
+>>> from meetbehind.reader import read_bound, read_rows
 >>> from meetbehind.relays import groups, relays
 >>> from meetbehind.repairs import repairs
 >>> from meetbehind.routes import hidden, reachable, way
+>>> from meetbehind.shell import Shell
 >>> from meetbehind.speakers import least_speakers, needed
 >>> from meetbehind.talks import even, shows_talk
 >>> from meetbehind.worlds import World
@@ -36,8 +41,7 @@
 
 >>> net = Net(ONE, choose=Ports(30, 40))
 >>> [net.send("x", (1, 1)), net.send("y", (5, 30)), net.send("x", (7, 30)), net.entries("a")]
-[('heard', 'p', (5, 30)), ('heard', 'x', (7, 30)), ('heard', 'y', (5, 40)), \
-(((10, 1), (1, 1), 30, ((1, 1),)), ((10, 1), (7, 30), 40, ((7, 30),)))]
+[('heard', 'p', (5, 30)), ('heard', 'x', (7, 30)), ('heard', 'y', (5, 40)), (((10, 1), (1, 1), 30, ((1, 1),)), ((10, 1), (7, 30), 40, ((7, 30),)))]
 
 >>> a1 = ("lent", "a", ("own", 10), ("own", 1))
 >>> [show_name(a1), is_plain(ONE, a1), fold(ONE, "b", a1), owner(ONE, a1), sources(ONE, "y", a1)[-1]]
@@ -47,15 +51,13 @@
 >>> [closure.first("y", "x"), closure.first("x", "y"), closure.rounds, [show_name(name) for name in closure.names]]
 [2, 3, 4, ['a(10|1)', 'b(10|1)', 'b(10|5?)', 'a(10|7?)']]
 
->>> INNER = World(("gate", "c", "", 9, Kind("one", "any")), ("gate", "a", "c", 20, Kind("one", "any")), \
-("gate", "b", "c", 21, Kind("one", "far")),
+>>> INNER = World(("gate", "c", "", 9, Kind("one", "any")), ("gate", "a", "c", 20, Kind("one", "any")), ("gate", "b", "c", 21, Kind("one", "far")),
 ...     ("host", "x", "a", 10), ("host", "y", "b", 10), ("host", "p", "", 1), ("host", "h", "c", 22), ("host", "z", "a", 22))
 >>> [Closure(INNER).first("x", "y"), Closure(INNER).first("y", "x"), Closure(INNER, speakers=["x", "y", "p"]).first("x", "y")]
 [2, 3, None]
 
 >>> reach(ONE, "y", "x")
 ('heard', ((1, 'x', ('own', 1)), (2, 'y', ('lent', 'a', ('own', 10), ('own', 1)))))
-
 >>> shows_plan(ONE, "x", "y", ((1, "x", ("own", 1)), (2, "y", a1), (3, "x", ("lent", "b", ("own", 10), 5))))
 True
 
@@ -73,25 +75,35 @@ True
 >>> [len([step for step in agent.run()]), agent.result[0], show_name(agent.result[1]), show_name(agent.result[2])]
 [3, 3, 'b(10)', 'a(10|b(10))']
 
->>> [least_speakers(ONE, "x", "y"), needed(ONE, "y", "x"), relays(ONE, "x", "y"), groups(ONE), \
-repairs(ONE.with_kind("b", Kind("both", "both")), "x", "y")]
+>>> [least_speakers(ONE, "x", "y"), needed(ONE, "y", "x"), relays(ONE, "x", "y"), groups(ONE), repairs(ONE.with_kind("b", Kind("both", "both")), "x", "y")]
 [(('p', 'x', 'y'),), ('p', 'x', 'y'), ('p',), (('p', 'x', 'y'),), (('a',), ('b',))]
 
 >>> REST = ONE.with_kind("a", Kind("both", "any", rests=30)).with_kind("b", Kind("both", "far", rests=20))
->>> [slowest(REST, "y", "x")[:2], slowest(REST, "x", "y")[:2]]
-[('beat', 29), ('beat', 19)]
+>>> [slowest(REST, "y", "x")[:2], slowest(REST, "x", "y")[:2], back(ONE, "a", "x", "y"), back(ONE, "a", "y", "x"), back(ONE, "b", "x", "y")]
+[('beat', 29), ('beat', 19), 1, 2, 2]
+
+>>> CHAIN = World(("gate", "n", "", 5, Kind("far", "any")), ("gate", "m", "n", 3, Kind("one", "both")), ("gate", "b", "", 7, Kind("one", "both")),
+...     ("host", "x", "m", 10), ("host", "y", "b", 10), ("host", "p", "", 1))
+>>> [Closure(CHAIN).first("y", "x"), Closure(joined(CHAIN, "m")).first("y", "x"), str(joined(CHAIN, "m").kind("m")), joined(CHAIN, "m").address("m")]
+[3, None, 'far/both', 5]
+
+>>> [show_rows(((1, "x", ("own", 1)), (2, "y", a1))), read_bound("never\\n1 a(10|1)"), read_rows("")]
+['1 x 1\\n2 y a(10|1)', (None, ((1, ('lent', 'a', ('own', 10), ('own', 1))),)), ()]
+
+>>> Shell().say_all("gate a - 5 both/any", "gate b - 7 both/far", "host x a 10", "host y b 10", "host p - 1", "first x y", "talk x y",
+...     "even x y", "send x 1:1", "entries a", "relays x y")
+['ok', 'ok', 'ok', 'ok', 'ok', '3', 'talk', 'no', 'heard p 5:2', '10:1>2', 'p']
 
 >>> [first_in(book(ONE), "x", "y"), len(book(ONE)[0]), shows_book(ONE, book(ONE)), shows_book(STRICT, book(ONE))]
 [3, 4, True, False]
 
->>> [blockers((("a",), ("b", "c"))), family(STRICT, "x", "y", "gates"), family(STRICT, "x", "y", "helpers"), \
-[str(kind) for kind in kinds_for(ONE, "b", "x", "y")[0]]]
+>>> [blockers((("a",), ("b", "c"))), family(STRICT, "x", "y", "gates"), family(STRICT, "x", "y", "helpers"), [str(kind) for kind in kinds_for(ONE, "b", "x", "y")[0]]]
 [(('a', 'b'), ('a', 'c')), ((('a',), ('b',)), (('a', 'b'),)), ((), ((),)), ['both/far']]
 
 >>> DRIFT = World(("gate", "a", "", 5, Kind("one", "any")), ("gate", "b", "", 7, Kind("both", "far")),
 ...     ("host", "x", "a", 10), ("host", "y", "b", 11), ("host", "p", "", 1))
->>> [show_name(name) for name in remaining(DRIFT, ("falls", "a"))]
-['b(11|1)', 'b(11|5?)']
+>>> [[show_name(name) for name in remaining(DRIFT, ("falls", "a"))], back(DRIFT, "a", "x", "y"), heard_again(DRIFT, "x", "", "x", "y"), heard_again(DRIFT, "y", "a", "x", "y")]
+[['b(11|1)', 'b(11|5?)'], 1, 2, 1]
 
 Words of the text:
 

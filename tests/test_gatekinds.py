@@ -76,7 +76,11 @@ class KindsForTest(Checks, unittest.TestCase):
         least, failing = kinds_for(ONE, "a", "y", "x")
         self.assertEqual([[str(kind) for kind in part] for part in (least, failing)], slow_kinds(ONE, "a", "y", "x"))
         self.assertGreater(len(least), 1)
-        self.assertEqual([str(kind) for kind in least], sorted(str(kind) for kind in least))
+        # "any" stands before "both" by text, though it is looser
+        world = World.read("gate a - 14 far/both\ngate b a 9 both/both turns\nhost s b 13\nhost t - 11\nhost u a 13")
+        texts = [[str(kind) for kind in part] for part in kinds_for(world, "a", "u", "s")]
+        self.assertEqual(texts[1], ["both/any turns", "far/far turns", "one/any", "one/both turns"])
+        self.assertEqual(texts, slow_kinds(world, "a", "u", "s"))
 
     def test_the_kind_in_the_world_means_nothing(self):
         expected = kinds_for(ONE, "b", "x", "y")

@@ -4,8 +4,9 @@ import inspect
 import unittest
 
 from meetbehind import (agents, beats, bookcheck, books, closure, families, familycheck, gatekinds, kinds, late,
-                        latecheck, leftovers, named, names, nets, packets, plancheck, plans, ports, questions, relays,
-                        repairs, restnets, routes, speakers, talks, worlds)
+                        latecheck, leftovers, looser, movenets, moves, named, names, nets, packets, plancheck, plans,
+                        plantexts, ports, questions, reader, relays, repairs, restnets, routes, shell, speakers, talks,
+                        worlds)
 from meetbehind.closure import Closure
 from meetbehind.kinds import Kind
 from meetbehind.named import NamedNet
@@ -38,6 +39,10 @@ FUNCTIONS = {
     familycheck: {"shows_family": "(world, x, y, question, thing)"},
     gatekinds: {"kinds_for": "(world, gate, x, y)", "shown_kinds": "(world, gate, x, y)",
                 "shows_kinds": "(world, gate, x, y, thing)"},
+    moves: {"book_after": "(world, event)", "back": "(world, gate, x, y)", "heard_again": "(world, host, realm, x, y)"},
+    looser: {"looser": "(one, two)", "joined": "(world, gate)", "renamed": "(world, table)", "grown": "(world, name, realm)"},
+    plantexts: {"show_rows": "(rows)", "show_bound": "(bound)"},
+    reader: {"read_rows": "(text)", "read_bound": "(text)"},
     beats: {"slowest": "(world, x, y, *, speakers=None)", "shows_beat": "(world, x, y, thing, *, speakers=None)"},
 }
 CLASSES = {
@@ -57,6 +62,11 @@ CLASSES = {
     (restnets, "RestNet"): {
         "": "(world, *, choose=None)", "send": "(self, host, target)", "entries": "(self, gate)", "seen": "(self, host)",
         "undo": "(self, count=1)", "twin": "(self)", "trial": "(self)", "wait": "(self, units)", "fall": "(self, gate)"},
+    (movenets, "MoveNet"): {
+        "": "(world, *, choose=None)", "send": "(self, host, target)", "entries": "(self, gate)", "seen": "(self, host)",
+        "undo": "(self, count=1)", "twin": "(self)", "trial": "(self)", "wait": "(self, units)", "fall": "(self, gate)",
+        "move": "(self, host, realm)"},
+    (shell, "Shell"): {"": "()", "say": "(self, line)", "say_all": "(self, *lines)"},
     (closure, "Closure"): {
         "": "(world, *, speakers=None, forgets=())", "told_in": "(self, name)", "first": "(self, x, y)",
         "heard": "(self, x, y)", "known": "(self, number)", "arrivals": "(self)"},
@@ -100,6 +110,9 @@ class ObjectsTest(Checks, unittest.TestCase):
                     speakers.needed(ONE, "x", "y"), relays.relays(ONE, "x", "y"), relays.groups(ONE),
                     repairs.repairs(STRICT, "x", "y"), gatekinds.kinds_for(ONE, "a", "y", "x"),
                     gatekinds.shown_kinds(ONE, "a", "y", "x"), beats.slowest(ONE, "x", "y"), beats.slowest(STRICT, "x", "y"),
+                    moves.book_after(ONE, ("falls", "a")), moves.back(ONE, "a", "x", "y"),
+                    plantexts.show_rows([(1, "x", ("own", 1))]), plantexts.show_bound((None, ())),
+                    reader.read_rows("1 x 1"), reader.read_bound("never\n1 a(10)"), shell.Shell().say("world"),
                     self.rest_net().log, self.rest_net().entries("a"), self.rest_net().now):
             self.assert_frozen(got)
 
@@ -160,6 +173,7 @@ class ObjectsTest(Checks, unittest.TestCase):
             self.assertIn(Kind("one", "any") == value, (True, False))
             self.assertIn(NamedNet(ONE) == value, (True, False))
             self.assertIn(restnets.RestNet(ONE) == value, (True, False))
+            self.assertIn(movenets.MoveNet(ONE) == value, (True, False))
             self.assertIsNone(ONE.station("", value) if not isinstance(value, int) else None)
             for ask in (plancheck.shows_plan, latecheck.shows_late, talks.shows_talk, beats.shows_beat):
                 self.assertIs(ask(ONE, "x", "y", value), False)

@@ -22,7 +22,9 @@ INTERFACE = {
     "talks": "talk shows_talk even meeting", "agents": "Agent", "families": "least_sets blockers",
     "questions": "set_up family shown_family", "speakers": "least_speakers needed", "relays": "relays groups",
     "repairs": "repairs opened", "familycheck": "shows_family", "gatekinds": "kinds_for shown_kinds shows_kinds",
-    "restnets": "RestNet", "beats": "slowest shows_beat",
+    "restnets": "RestNet", "beats": "slowest shows_beat", "moves": "book_after back heard_again", "movenets": "MoveNet",
+    "looser": "looser joined renamed grown", "plantexts": "show_rows show_bound", "reader": "read_rows read_bound",
+    "shell": "Shell",
 }
 METHODS = {
     ("kinds", "Kind"): "__init__ lends lets turns rests within read __or__ __and__ __eq__ __str__ __repr__",
@@ -32,6 +34,8 @@ METHODS = {
     ("nets", "Net"): "__init__ world log told entries seen send undo twin trial __eq__",
     ("named", "NamedNet"): "send_to endpoint known_names undo twin trial",
     ("restnets", "RestNet"): "now wait fall entries log undo twin trial __eq__",
+    ("movenets", "MoveNet"): "world move undo twin trial __eq__",
+    ("shell", "Shell"): "__init__ say say_all",
     ("closure", "Closure"): "__init__ world speakers names rounds told_in first heard known arrivals",
     ("agents", "Agent"): "__init__ step round learned result done run twin",
 }
@@ -173,19 +177,32 @@ class FilesTest(unittest.TestCase):
     def test_module_level(self):
         for name, tree in TREES.items():
             bound = []
+            defined = []
             for at, node in enumerate(tree.body):
                 if isinstance(node, ast.ImportFrom):
                     bound += [one.name for one in node.names]
                 elif isinstance(node, (ast.FunctionDef, ast.ClassDef)):
                     bound.append(node.name)
+                    defined.append(node.name)
                 elif isinstance(node, ast.Assign):
                     self.assertEqual(len(node.targets), 1)
                     bound.append(node.targets[0].id)
-                    ast.literal_eval(node.value)
+                    self.assert_plain(node.value, defined)
                 else:
                     self.assertEqual(at, 0, name)
                     self.assertIsInstance(node.value, ast.Constant)
             self.assertEqual(len(bound), len(set(bound)), name)
+
+
+    def assert_plain(self, node, defined):
+        """Asserts that a value is plain, or a dict of functions that stand above it."""
+        if isinstance(node, ast.Dict) and all(isinstance(one, ast.Name) for one in node.values):
+            for one in node.keys + node.values:
+                self.assertTrue(isinstance(one, ast.Constant) or one.id in defined)
+        else:
+            value = ast.literal_eval(node)
+            for part in value.values() if isinstance(value, dict) else value if isinstance(value, (list, tuple)) else ():
+                self.assertNotIsInstance(part, (list, dict))
 
 
 class NamesTest(unittest.TestCase):
@@ -325,7 +342,7 @@ class ExpressionsTest(unittest.TestCase):
     def test_a_set_stands_in_sorted_or_len_only(self):
         allowed = set()
         for _, node in nodes(ast.Call):
-            if isinstance(node.func, ast.Name) and node.func.id in ("sorted", "len"):
+            if isinstance(node.func, ast.Name) and node.func.id in ("sorted", "len") and not node.keywords:
                 allowed.update(id(one) for one in node.args)
         for place, node in nodes(ast.Call):
             if isinstance(node.func, ast.Name) and node.func.id == "set":

@@ -13,12 +13,18 @@ from meetbehind.kinds import Kind
 from meetbehind.late import late, reasons
 from meetbehind.latecheck import shows_late
 from meetbehind.leftovers import event_in, remaining
+from meetbehind.looser import grown, joined, looser, renamed
+from meetbehind.movenets import MoveNet
+from meetbehind.moves import back, book_after, heard_again
 from meetbehind.plancheck import shows_plan
 from meetbehind.plans import reach
+from meetbehind.plantexts import show_bound, show_rows
 from meetbehind.questions import family, set_up, shown_family
+from meetbehind.reader import read_bound, read_rows
 from meetbehind.relays import groups, relays
 from meetbehind.repairs import opened, repairs
 from meetbehind.restnets import RestNet
+from meetbehind.shell import Shell
 from meetbehind.speakers import least_speakers, needed
 from meetbehind.talks import even, meeting, shows_talk, talk
 from meetbehind.worlds import World
@@ -63,6 +69,48 @@ class TimesTest(unittest.TestCase):
                 after = self.in_time(event_in, world, event)
                 self.in_time(remaining, world, event)
                 self.assertIn(self.in_time(shows_book_after, world, event, book(after)), (True, False))
+                right = self.in_time(book_after, world, event)
+                self.assertIs(self.in_time(shows_book_after, world, event, right), True)
+                if event[0] == "falls":
+                    self.in_time(back, world, event[1], host, world.hosts[1])
+                else:
+                    self.in_time(heard_again, world, *event[1:], host, world.hosts[1])
+
+    def test_other_worlds(self):
+        for world in (SIX, BIG, WIDE):
+            self.in_time(looser, world, world)
+            self.in_time(grown, world.without(world.hosts[0]), "new", world.gates[2])
+            names = [part[1] for part in world.parts if [one[3] for one in world.parts].count(part[3]) == 1]
+            self.in_time(renamed, world, {name: 60 + at for at, name in enumerate(names)})
+        gates = [("gate", name, "abcde"[at - 1] if at % 3 else "", 20 + at, Kind("one", "any")) for at, name in enumerate("abcdef")]
+        hosts = [("host", name, "c" if at % 2 else "f", 40 + at) for at, name in enumerate("stuvwxyz")]
+        world = World(*gates, *hosts)
+        for gate in "bcef":
+            self.in_time(joined, world, gate)
+        for x, y in (("s", "t"), ("t", "s")):
+            self.in_time(lambda: read_bound(show_bound(late(world, x, y))))
+            self.in_time(lambda: read_rows(show_rows(tuple(row[:3] for row in book(world)[1]))))
+
+    def test_texts_of_twenty_thousand_characters(self):
+        for text in ("1 x a(b(c(10|1?)))\n" * 1050, "1" * 20000, "1 x " + "a(" * 9998, " " * 20000, "\n" * 20000):
+            for read in (read_rows, read_bound):
+                self.in_time(lambda: self.assertRaises(ValueError, read, text))
+            self.in_time(lambda: self.assertRaises(ValueError, Shell().say, text))
+
+    def test_each_line_of_a_shell(self):
+        for world in (SIX, BIG, WIDE):
+            shell = Shell()
+            self.in_time(shell.say_all, *str(world).split("\n"))
+            x, y, gate = world.hosts[0], world.hosts[1], world.gates[1]
+            helper = [name for name in world.hosts if world.realm(name) == "" and name not in (x, y)][0]
+            realm = [one for one in world.gates if world.station(one, world.address(x)) is None][0]
+            for line in ("world", f"send {x} 1:1", "wait 5", f"fall {gate}", f"entries {gate}", f"first {x} {y}", f"plan {x} {y}",
+                         f"late {x} {y}", f"talk {x} {y}", f"even {x} {y}", f"speakers {x} {y}", f"relays {x} {y}",
+                         f"repairs {x} {y}", f"beat {x} {y}", f"back {gate} {x} {y}", f"again {x} {realm} {x} {y}",
+                         "meeting " + " ".join(world.hosts), f"family speakers {x} {y}", f"family gates {x} {y}",
+                         f"agent {x} {y} {helper}", f"move {x} {realm}", "undo 1", f"drop {x}", f"host {x} {gate} 77",
+                         f"kind {gate} one/any turns rests 5", f"drop {y}"):
+                self.in_time(shell.say, line)
 
     def test_talks(self):
         for world in (SIX, BIG, WIDE):
@@ -111,15 +159,19 @@ class TimesTest(unittest.TestCase):
             resting = World(*[part[:4] + (part[4] & Kind("one", "any", turns=True, rests=50),) if part[0] == "gate" else part
                               for part in world.parts])
             self.in_time(self.many_packets, RestNet(resting))
+            self.in_time(self.many_packets, MoveNet(resting))
 
     def many_packets(self, net):
-        """Sends packets, waits and lets gates fall; takes all back."""
+        """Sends packets, waits, lets gates fall and moves hosts, where they do; takes all back."""
         for number in range(600):
             host = net.world.hosts[number * 5 % 8]
             net.send(host, (number * 7 % 60 + 1, number % 11))
             net.wait(1 + number % 13)
             if number % 50 == 7:
                 net.fall(net.world.gates[number % 6])
+                realm = net.world.gates[number % 5]
+                if isinstance(net, MoveNet) and net.world.station(realm, net.world.address(host)) is None:
+                    net.move(host, realm)
             net.entries(net.world.gates[number % 6])
         net.twin().undo(300)
         net.undo(600)
