@@ -54,7 +54,8 @@ def renamed(world, table):
             raise InvalidTarget(table[name])
     for name in names:
         _check_clash(world, name, table[name], [table[other] for other in names if other != name])
-    return World(*[part[:3] + (table.get(part[1], part[3]),) + part[4:] for part in world.parts])
+    parts = [part[:3] + (table.get(part[1], part[3]),) + part[4:] for part in world.parts]
+    return World(*parts)
 
 
 def _check_clash(world, name, address, others):

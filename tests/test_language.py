@@ -363,6 +363,28 @@ class ExpressionsTest(unittest.TestCase):
             if isinstance(node.func, ast.Attribute):
                 self.assertIn(node.func.attr, own | METHODS_OF_VALUES, place)
 
+    def test_what_stands_behind_a_star(self):
+        properties = {node.name for _, node in functions()
+                      if any(getattr(one, "id", None) == "property" for one in node.decorator_list)}
+        for place, node in nodes(ast.Call):
+            stars = [at for at, one in enumerate(node.args) if isinstance(one, ast.Starred)]
+            doubles = [one for one in node.keywords if one.arg is None]
+            if doubles:
+                self.assertEqual(len(node.keywords), 1, place)
+                self.assertTrue(self.is_plain(doubles[0].value, properties), place)
+            for one in node.args if doubles else node.args[stars[0]:] if stars else []:
+                self.assertTrue(self.is_plain(one.value if isinstance(one, ast.Starred) else one, properties), place)
+
+    def is_plain(self, node, properties):
+        """Whether a node is a name, an attribute off a name, a literal, or a list, tuple or dict of these."""
+        if isinstance(node, ast.Attribute):
+            return isinstance(node.value, ast.Name) and node.attr not in properties
+        if isinstance(node, (ast.List, ast.Tuple)):
+            return all(self.is_plain(one, properties) for one in node.elts)
+        if isinstance(node, ast.Dict):
+            return all(self.is_plain(one, properties) for one in node.keys + node.values)
+        return isinstance(node, (ast.Name, ast.Constant))
+
     def test_raises(self):
         for place, node in nodes(ast.Raise):
             self.assertIsInstance(node.exc, ast.Call, place)

@@ -19,6 +19,11 @@ MIXED = World(*ONE.parts[1::-1], *ONE.parts[:1:-1])
 # all addresses are distinct, so that each of them can be changed
 APART = World(("gate", "a", "", 5, Kind("one", "far")), ("gate", "b", "a", 7, Kind("both", "far", rests=9)),
               ("host", "x", "b", 10), ("host", "y", "a", 11), ("host", "p", "", 1))
+# several gates, within and beside one another; v and w have one address
+SEVERAL = World(("gate", "a", "", 5, Kind("both", "far")), ("host", "p", "", 1), ("gate", "b", "", 7, Kind("far", "any")),
+                ("gate", "c", "a", 20, Kind("one", "both", turns=True, rests=30)), ("gate", "d", "c", 21, Kind("far", "far")),
+                ("host", "v", "a", 30), ("host", "w", "b", 30), ("host", "x", "c", 31), ("host", "y", "d", 32),
+                ("host", "z", "b", 33))
 
 
 def random_kind(rng, rests=(None,)):
@@ -239,6 +244,40 @@ class RenamedTest(Checks, unittest.TestCase):
         self.assert_raises(Clash, {"number": 10}, renamed, ONE, {"y": 5, "x": 20, "b": 30})
         self.assert_raises(Clash, {"number": 1}, renamed, ONE, {"y": 20, "b": 1})
         self.assert_raises(Clash, {"number": 20}, renamed, ONE, {"y": 21, "p": 20, "b": 20})
+
+    def test_several_gates_and_hosts_of_which_some_get_new_addresses(self):
+        table = {"c": 40, "z": 2, "a": 99, "y": 41}
+        other = renamed(SEVERAL, table)
+        self.assertEqual(other.parts, (
+            ("gate", "a", "", 99, Kind("both", "far")), SEVERAL.parts[1], SEVERAL.parts[2],
+            ("gate", "c", "a", 40, Kind("one", "both", turns=True, rests=30)), *SEVERAL.parts[4:8],
+            ("host", "y", "d", 41), ("host", "z", "b", 2)))
+        self.assertEqual([other.address(name) for name in ("a", "b", "c", "d", "p", "v", "w", "x", "y", "z")],
+                         [99, 7, 40, 21, 1, 30, 30, 31, 41, 2])
+        self.assertEqual([other.station("a", 40), other.station("a", 20), other.station("", 99), other.station("", 5)],
+                         ["c", None, "a", None])
+        self.assertEqual(table, {"c": 40, "z": 2, "a": 99, "y": 41})
+        one, two = Closure(SEVERAL), Closure(other)
+        for x in SEVERAL.hosts:
+            for y in SEVERAL.hosts:
+                self.assert_same(one.first(x, y), two.first(x, y))
+
+    def test_several_gates_and_hosts_that_exchange_addresses(self):
+        for one, two in (("x", "y"), ("a", "b"), ("a", "y"), ("c", "z"), ("d", "p")):
+            table = {two: SEVERAL.address(one), one: SEVERAL.address(two)}
+            # the new address of the first of both, ascending, is that of the other one
+            clash = {"number": table[min(one, two)]}
+            self.assert_raises(Clash, clash, renamed, SEVERAL, table)
+            table["c" if one != "c" else "x"] = 40
+            self.assert_raises(Clash, clash, renamed, SEVERAL, table)
+        # three in a ring
+        self.assert_raises(Clash, {"number": 31}, renamed, SEVERAL, {"z": 32, "y": 31, "x": 33, "p": 31})
+        self.assert_raises(Clash, {"number": 30}, renamed, SEVERAL, {"v": 33, "z": 50})
+
+    def test_several_gates_and_hosts_with_an_empty_table(self):
+        for world in (SEVERAL, BIG, SIX):
+            self.assertEqual(renamed(world, {}).parts, world.parts)
+            self.assertEqual(renamed(world, {}), world)
 
     def test_rounds_are_the_same(self):
         many = 0
