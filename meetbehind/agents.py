@@ -4,7 +4,7 @@ from meetbehind.errors import NoStation
 from meetbehind.given import check_host
 from meetbehind.judge import Judge
 from meetbehind.names import show_name
-from meetbehind.packets import Packet
+from meetbehind.roads import roads_of
 from meetbehind.talks import even_names
 
 QUIET_ROUNDS = 2
@@ -24,7 +24,8 @@ class Agent:
         self._x = x
         self._y = y
         self._helper = helper
-        self._judge = Judge(world)
+        self._roads = roads_of(world)
+        self._judge = Judge()
         self._round = 0
         # how many rounds behind one another brought nothing new
         self._quiet = 0
@@ -70,7 +71,7 @@ class Agent:
         """The packets of a round of one of both hosts."""
         addresses = sorted(set([self._world.address(name) for name in (self._helper, other)]))
         names = [("own", address) for address in addresses] + list(self._shown[other])
-        return [Packet(self._world, sender, name, ()) for name in names]
+        return [self._roads.packet(sender, name) for name in names]
 
     def _take_down(self, rows):
         """Learns from the packets that were delivered; whether one of them was so for the first time.

@@ -7,6 +7,7 @@ from meetbehind.late import bound_in
 from meetbehind.latecheck import is_never_for
 from meetbehind.plancheck import is_plan_for
 from meetbehind.plans import plan_rows
+from meetbehind.roads import roads_of
 
 
 def slowest(world, x, y, *, speakers=None):
@@ -15,12 +16,11 @@ def slowest(world, x, y, *, speakers=None):
     check_host(world, y)
     speaking = given_speakers(world, speakers)
     for beat in _beats(world):
-        forgets = _forgetting(world, beat)
-        course = Course(world, speaking, forgets)
+        course = Course(roads_of(world, _forgetting(world, beat)), speaking, goal=(x, y))
         row = course.first_row(x, y)
         if row is not None:
-            return ("beat", beat, plan_rows(world, course, [row[:3]], forgets))
-    return ("never", bound_in(Course(world, speaking, ()), x, y))
+            return ("beat", beat, plan_rows(course, [row[:3]]))
+    return ("never", bound_in(Course(roads_of(world), speaking), x, y))
 
 
 def shows_beat(world, x, y, thing, *, speakers=None):
@@ -31,12 +31,12 @@ def shows_beat(world, x, y, thing, *, speakers=None):
     if not isinstance(thing, tuple) or len(thing) < 2:
         return False
     if thing[0] == "never" and len(thing) == 2:
-        return is_never_for(world, speaking, x, y, thing[1])
+        return is_never_for(world, roads_of(world), speaking, x, y, thing[1])
     if thing[0] != "beat" or len(thing) != 3 or not (thing[1] is None or is_round(thing[1])):
         return False
     _, beat, rows = thing
     # as y hears x with this beat, no greater one does it just if this is the greatest
-    return (is_plan_for(world, speaking, x, y, rows, _forgetting(world, beat))
+    return (is_plan_for(world, roads_of(world, _forgetting(world, beat)), speaking, x, y, rows)
             and slowest(world, x, y, speakers=speaking)[1] == beat)
 
 

@@ -3,23 +3,25 @@
 from meetbehind.checks import is_same
 from meetbehind.earliest import earliest_rows, listed_rounds, rounds_of_all
 from meetbehind.given import given_speakers
-from meetbehind.leftovers import event_in, Leftovers
+from meetbehind.leftovers import event_in, Leftovers, roads_behind
 from meetbehind.names import show_name
+from meetbehind.roads import roads_of
 
 
 def shows_book(world, thing, *, speakers=None):
     """Whether any value is the right book of a world and speakers."""
-    return _is_book(world, given_speakers(world, speakers), (), (), thing)
+    return _is_book(world, roads_of(world), given_speakers(world, speakers), (), (), thing)
 
 
 def shows_book_after(world, event, thing):
     """Whether any value is the right book of the rounds behind an event."""
     after = event_in(world, event)
-    rest = Leftovers(world, event)
-    return _is_book(after, after.hosts, rest.left, rest.opened, thing)
+    roads = roads_of(world)
+    rest = Leftovers(roads, world.hosts, event)
+    return _is_book(after, roads_behind(roads, event, after), after.hosts, rest.left, rest.opened, thing)
 
 
-def _is_book(world, speakers, names, opened, thing):
+def _is_book(world, roads, speakers, names, opened, thing):
     """Whether any value is the right book if these lent names were known, and all this was opened, before round 1."""
     if not isinstance(thing, tuple) or len(thing) != 2:
         return False
@@ -27,7 +29,7 @@ def _is_book(world, speakers, names, opened, thing):
     if listed is None or not _is_sorted(thing[0]):
         return False
     # a name that was known before round 1 cannot be listed, as no row tells it
-    rows = earliest_rows(world, speakers, rounds_of_all(world, names, listed), opened)
+    rows = earliest_rows(roads, speakers, rounds_of_all(roads, names, listed), opened)
     return is_same(thing[1], tuple(rows)) and _told_by(speakers, rows, names) == listed
 
 

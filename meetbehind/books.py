@@ -3,11 +3,12 @@
 from meetbehind.course import Course
 from meetbehind.given import given_speakers
 from meetbehind.names import show_name
+from meetbehind.roads import roads_of
 
 
 def book(world, *, speakers=None):
     """The right book of a world and speakers: all lent names that are told, and all deliveries, with their rounds."""
-    return book_of(Course(world, given_speakers(world, speakers), ()))
+    return book_of(Course(roads_of(world), given_speakers(world, speakers)))
 
 
 def book_of(course):

@@ -37,6 +37,5 @@ def is_same(value, right):
 
 def is_word(value):
     """Whether a value could be the name of a station."""
-    # the length is asked first: a text may be long
-    return (isinstance(value, str) and 1 <= len(value) <= LONGEST_NAME
-            and all([letter in LETTERS for letter in value]))
+    # the length is asked first: a text may be long; without the letters at both ends nothing is left of letters alone
+    return isinstance(value, str) and 1 <= len(value) <= LONGEST_NAME and value.strip(LETTERS) == ""

@@ -6,6 +6,7 @@ from meetbehind.errors import NoRound
 from meetbehind.given import check_host, given_gates, given_speakers
 from meetbehind.names import check_name, show_name
 from meetbehind.naming import known_at_first
+from meetbehind.roads import roads_of
 
 
 class Closure:
@@ -14,7 +15,7 @@ class Closure:
     def __init__(self, world, *, speakers=None, forgets=()):
         self._world = world
         self._speakers = given_speakers(world, speakers)
-        course = Course(world, self._speakers, given_gates(world, forgets))
+        course = Course(roads_of(world, given_gates(world, forgets)), self._speakers)
         self._since = course.since
         self._rows = course.rows
         self._firsts = {}

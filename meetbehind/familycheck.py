@@ -1,9 +1,10 @@
 """Whether any value shows by plans and bounds which sets of items are the least ones."""
 
 from meetbehind.families import blockers
-from meetbehind.latecheck import shows_late
-from meetbehind.plancheck import shows_plan
-from meetbehind.questions import check_family, items_of, set_up
+from meetbehind.latecheck import is_never_for
+from meetbehind.plancheck import is_plan_for
+from meetbehind.questions import check_family, items_of, setting
+from meetbehind.roads import roads_of
 
 
 def shows_family(world, x, y, question, thing):
@@ -16,8 +17,9 @@ def shows_family(world, x, y, question, thing):
     least = tuple([part for part, _ in plans])
     if not _are_least_sets(every, least) or tuple([part for part, _ in bounds]) != blockers(least):
         return False
-    return (all([_is_enough(world, x, y, question, part, rows) for part, rows in plans])
-            and all([_is_blocking(world, x, y, question, part, bound) for part, bound in bounds]))
+    roads = roads_of(world)
+    return (all([_is_enough(world, roads, x, y, question, part, rows) for part, rows in plans])
+            and all([_is_blocking(world, roads, x, y, question, part, bound) for part, bound in bounds]))
 
 
 def _has_pairs(thing):
@@ -36,13 +38,14 @@ def _are_least_sets(every, sets):
     return not any([all([item in other for item in part]) for at, part in enumerate(sets) for other in sets[at + 1:]])
 
 
-def _is_enough(world, x, y, question, part, rows):
+def _is_enough(world, roads, x, y, question, part, rows):
     """Whether any value is a plan in which y hears x with these items."""
-    other, speakers = set_up(world, question, part)
-    return shows_plan(other, x, y, rows, speakers=speakers)
+    other, packets, speakers = setting(world, roads, question, part)
+    return is_plan_for(other, packets, speakers, x, y, rows)
 
 
-def _is_blocking(world, x, y, question, part, bound):
+def _is_blocking(world, roads, x, y, question, part, bound):
     """Whether any value is a bound which shows that y never hears x without these items."""
-    other, speakers = set_up(world, question, [item for item in items_of(world, question) if item not in part])
-    return shows_late(other, x, y, bound, speakers=speakers) and bound[0] is None
+    rest = tuple([item for item in items_of(world, question) if item not in part])
+    other, packets, speakers = setting(world, roads, question, rest)
+    return is_never_for(other, packets, speakers, x, y, bound)

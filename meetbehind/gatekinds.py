@@ -8,13 +8,16 @@ from meetbehind.late import late
 from meetbehind.latecheck import is_never_for
 from meetbehind.plancheck import is_plan_for
 from meetbehind.plans import reach
+from meetbehind.roads import kinds_of, roads_of
 
 
 def kinds_for(world, gate, x, y):
     """The least kinds of the gate with which y hears x, and the greatest with which it never does."""
     _check(world, gate, x, y)
     kinds = _all_kinds()
-    heard = [kind for kind in kinds if is_heard(world.with_kind(gate, kind), x, y)]
+    roads = roads_of(world)
+    others = kinds_of(world)
+    heard = [kind for kind in kinds if is_heard(roads.with_kinds({**others, gate: kind}), world.hosts, x, y)]
     failing = [kind for kind in kinds if kind not in heard]
     # each kind is within itself
     least = [kind for kind in heard if len([other for other in heard if other.within(kind)]) == 1]
@@ -41,8 +44,10 @@ def shows_kinds(world, gate, x, y, thing):
     if not all([_is_told(kind, least, failing) for kind in _all_kinds()]):
         return False
     hosts = world.hosts
-    return (all([is_plan_for(world.with_kind(gate, kind), hosts, x, y, rows) for kind, rows in plans])
-            and all([is_never_for(world.with_kind(gate, kind), hosts, x, y, bound) for kind, bound in bounds]))
+    enough = [(world.with_kind(gate, kind), rows) for kind, rows in plans]
+    too_strict = [(world.with_kind(gate, kind), bound) for kind, bound in bounds]
+    return (all([is_plan_for(other, roads_of(other), hosts, x, y, rows) for other, rows in enough])
+            and all([is_never_for(other, roads_of(other), hosts, x, y, bound) for other, bound in too_strict]))
 
 
 def _check(world, gate, x, y):

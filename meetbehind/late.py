@@ -4,15 +4,14 @@ from meetbehind.course import Course
 from meetbehind.errors import Heard
 from meetbehind.given import check_host, given_speakers
 from meetbehind.names import show_name
-from meetbehind.naming import known_at_first
-from meetbehind.packets import is_barred, Packet
+from meetbehind.roads import roads_of
 
 
 def late(world, x, y, *, speakers=None):
     """The bound that shows that y does not hear x before the round in which it does so first, or that it never does."""
     check_host(world, x)
     check_host(world, y)
-    return bound_in(Course(world, given_speakers(world, speakers), ()), x, y)
+    return bound_in(Course(roads_of(world), given_speakers(world, speakers), goal=(x, y)), x, y)
 
 
 def bound_in(course, x, y):
@@ -28,20 +27,21 @@ def reasons(world, x, y, *, speakers=None):
     check_host(world, x)
     check_host(world, y)
     speaking = given_speakers(world, speakers)
-    course = Course(world, speaking, ())
+    roads = roads_of(world)
+    course = Course(roads, speaking)
     row = course.first_row(x, y)
     if row is not None:
         raise Heard(row[0])
     if x in speaking:
-        for name in sorted(known_at_first(world) + list(course.since), key=show_name):
-            end = _end_of(world, Packet(world, x, name, ()), course.opened)
+        for name in sorted(roads.at_first() + list(course.since), key=show_name):
+            end = _end_of(roads.packet(x, name), course.opened)
             if end[0] == "lost":
                 yield (name, end[1], end[2])
 
 
-def _end_of(world, packet, opened):
+def _end_of(packet, opened):
     """What becomes of a packet to a known name, if all in the dict opened was opened."""
-    for entry in packet.enters:
-        if is_barred(world, entry, packet.shows[-1], opened, ()):
-            return ("lost", "barred", entry[1])
+    for pair in packet.needs or []:
+        if pair not in opened:
+            return ("lost", "barred", pair[0][1])
     return packet.end

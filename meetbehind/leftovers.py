@@ -5,6 +5,7 @@ from meetbehind.errors import Clash, InvalidEvent
 from meetbehind.given import is_host
 from meetbehind.names import show_name
 from meetbehind.naming import address_in, lent_chain, owner_of
+from meetbehind.roads import roads_of
 from meetbehind.worlds import World
 
 
@@ -34,43 +35,55 @@ def _is_event(world, value):
 def remaining(world, event):
     """The lent names that are left behind an event of those that are told in the closure, sorted."""
     event_in(world, event)
-    return tuple(sorted(list(Leftovers(world, event).left), key=show_name))
+    return tuple(sorted(list(Leftovers(roads_of(world), world.hosts, event).left), key=show_name))
+
+
+def roads_behind(roads, event, after):
+    """The packets of the world after, behind an event; roads are those of the world before it."""
+    return roads if event[0] == "falls" else roads_of(after)
 
 
 class Leftovers:
-    """What is left of the closure of a world behind an event.
+    """What is left behind an event of rounds in which these hosts speak, by the packets of some roads.
 
     left is a dict of the lent names that are left; opened a dict of what is left of all that was opened.
     """
 
-    def __init__(self, world, event):
-        self._world = world
+    def __init__(self, roads, hosts, event):
+        self._roads = roads
         self._event = event
-        course = Course(world, world.hosts, ())
-        self.left = {self._rest_of(name): True for name in course.since if not self._is_dead(name)}
+        self._rests = {}
+        course = Course(roads, hosts)
+        self.left = {}
+        for name in course.since:
+            rest = self._rest_of(name)
+            if rest is not None:
+                self.left[rest] = True
         self.opened = {}
         for entry, target in course.opened:
+            rest = self._rest_of(entry)
             # a dead name counts as a blind one, which need not be kept: no packet comes from it
-            if not self._is_dead(entry) and not (isinstance(target, tuple) and self._is_dead(target)):
-                self.opened[(self._rest_of(entry), self._rest_of_target(target))] = True
-
-    def _is_dead(self, name):
-        """Whether the entry of a lent name is gone or leads nowhere; False for other names."""
-        if name[0] != "lent":
-            return False
-        if self._event[0] == "falls":
-            return self._event[1] in [lent[1] for lent in lent_chain(name)]
-        return owner_of(self._world, name) == self._event[1]
+            sent_to = self._rest_of(target) if isinstance(target, tuple) else target
+            if rest is not None and sent_to is not None:
+                self.opened[(rest, sent_to)] = True
 
     def _rest_of(self, name):
-        """What is left of a name that is not dead: each key in it that is a dead name becomes its address."""
+        """What is left of a name; None if its entry is gone or leads nowhere."""
         if name[0] != "lent":
             return name
-        _, gate, inner, key = name
-        if isinstance(key, tuple) and self._is_dead(key):
-            key = address_in(self._world, key)
-        return ("lent", gate, self._rest_of(inner), key)
+        if name not in self._rests:
+            self._rests[name] = None if self._is_dead(name) else self._with_rests(name)
+        return self._rests[name]
 
-    def _rest_of_target(self, target):
-        """What is left of a name or an address for which an entry was opened."""
-        return self._rest_of(target) if isinstance(target, tuple) else target
+    def _is_dead(self, name):
+        """Whether the entry of a lent name is gone or leads nowhere."""
+        if self._event[0] == "falls":
+            return self._event[1] in [lent[1] for lent in lent_chain(name)]
+        return owner_of(self._roads, name) == self._event[1]
+
+    def _with_rests(self, name):
+        """What is left of a lent name that is not dead: each key in it that is a dead name becomes its address."""
+        _, gate, inner, key = name
+        if isinstance(key, tuple) and self._rest_of(key) is None:
+            key = address_in(self._roads, key)
+        return ("lent", gate, self._rest_of(inner), key)

@@ -1,17 +1,16 @@
 """Rounds behind an event, from what is left of the rounds before it."""
 
-from meetbehind.books import book_of, first_in
+from meetbehind.books import book_of
 from meetbehind.course import Course
 from meetbehind.errors import NoStation
 from meetbehind.given import check_host
-from meetbehind.leftovers import event_in, Leftovers
+from meetbehind.leftovers import event_in, Leftovers, roads_behind
+from meetbehind.roads import roads_of
 
 
 def book_after(world, event):
     """The right book of the rounds behind an event."""
-    after = event_in(world, event)
-    rest = Leftovers(world, event)
-    return book_of(Course(after, after.hosts, (), rest.left, rest.opened))
+    return book_of(_course_behind(world, event, None))
 
 
 def back(world, gate, x, y):
@@ -20,7 +19,7 @@ def back(world, gate, x, y):
         raise NoStation(gate)
     check_host(world, x)
     check_host(world, y)
-    return first_in(book_after(world, ("falls", gate)), x, y)
+    return _first_behind(world, ("falls", gate), x, y)
 
 
 def heard_again(world, host, realm, x, y):
@@ -28,4 +27,18 @@ def heard_again(world, host, realm, x, y):
     check_host(world, host)
     check_host(world, x)
     check_host(world, y)
-    return first_in(book_after(world, ("moves", host, realm)), x, y)
+    return _first_behind(world, ("moves", host, realm), x, y)
+
+
+def _first_behind(world, event, x, y):
+    """The round behind an event in which y hears x first, or None."""
+    row = _course_behind(world, event, (x, y)).first_row(x, y)
+    return None if row is None else row[0]
+
+
+def _course_behind(world, event, goal):
+    """The rounds behind an event, done until the second of two hosts hears the first, if goal is a pair of hosts."""
+    after = event_in(world, event)
+    roads = roads_of(world)
+    rest = Leftovers(roads, world.hosts, event)
+    return Course(roads_behind(roads, event, after), after.hosts, rest.left, rest.opened, goal)

@@ -21,12 +21,14 @@ def plain_in(world, name, forgets):
 
 def key_at(world, gate, name, forgets):
     """The key of a packet to a name at a gate."""
-    lends = world.kind(gate).lends
+    return key_by(world.kind(gate).lends, name, address_in(world, name), plain_in(world, name, forgets))
+
+
+def key_by(lends, name, address, is_name_plain):
+    """The key of a packet to a name with this address at a gate that lends by this word."""
     if lends == "one":
         return None
-    if lends == "both" and plain_in(world, name, forgets):
-        return name
-    return address_in(world, name)
+    return name if lends == "both" and is_name_plain else address
 
 
 def shown_names(world, gates, host, name, forgets):
@@ -62,6 +64,5 @@ def owner_of(world, name):
 
 def known_at_first(world):
     """The own and blind names of a world, which are known before the first round."""
-    hosts = sorted(set([world.address(host) for host in world.hosts]))
-    gates = sorted(set([world.address(gate) for gate in world.gates]))
-    return [("own", address) for address in hosts] + [("blind", address) for address in gates]
+    names = {("own" if part[0] == "host" else "blind", part[3]): True for part in world.parts}
+    return list(names)

@@ -4,34 +4,33 @@ from meetbehind.checks import is_round
 from meetbehind.given import check_host, given_speakers
 from meetbehind.judge import Judge
 from meetbehind.names import is_name, show_name
-from meetbehind.naming import can_be_told
-from meetbehind.packets import Packet
+from meetbehind.roads import roads_of
 
 
 def shows_plan(world, x, y, thing, *, speakers=None):
     """Whether any value is a plan in whose last round y hears x."""
     check_host(world, x)
     check_host(world, y)
-    return is_plan_for(world, given_speakers(world, speakers), x, y, thing)
+    return is_plan_for(world, roads_of(world), given_speakers(world, speakers), x, y, thing)
 
 
-def is_plan_for(world, speakers, x, y, thing, forgets=()):
-    """Whether any value is a plan of these speakers, while these gates forget, in whose last round y hears x."""
-    heard = heard_in_plan(world, speakers, thing, forgets)
+def is_plan_for(world, roads, speakers, x, y, thing):
+    """Whether any value is a plan of these speakers, by the packets of roads, in whose last round y hears x."""
+    heard = heard_in_plan(world, roads, speakers, thing)
     return heard is not None and heard.get((x, y)) == thing[-1][0]
 
 
-def heard_in_plan(world, speakers, thing, forgets=()):
+def heard_in_plan(world, roads, speakers, thing):
     """A dict from the pairs of a sender and a host that hears it to the last round in which it does so.
 
-    None for any value that is no plan of these speakers, while these gates forget.
+    None for any value that is no plan of these speakers, by the packets of roads.
     """
     if not _has_form(world, speakers, thing):
         return None
     by_round = {}
     for number, host, name in thing:
-        by_round.setdefault(number, []).append(Packet(world, host, name, forgets))
-    judge = Judge(world, forgets)
+        by_round.setdefault(number, []).append(roads.packet(host, name))
+    judge = Judge()
     seen_names = {}
     heard = {}
     for number in by_round:
@@ -41,7 +40,7 @@ def heard_in_plan(world, speakers, thing, forgets=()):
         for packet in judge.do_round(packets):
             hearer = packet.end[1]
             heard[(packet.host, hearer)] = number
-            if hearer in speakers and can_be_told(packet.shows[-1], forgets):
+            if hearer in speakers and roads.is_told(packet.shows[-1]):
                 seen_names[packet.shows[-1]] = True
     return heard
 

@@ -1,13 +1,14 @@
 """With which speakers, looser gates or helpers a host hears another one."""
 
 from meetbehind.checks import LETTERS
-from meetbehind.course import Course
+from meetbehind.course import Course, is_heard
 from meetbehind.errors import InvalidQuestion, TooMany
 from meetbehind.families import blockers, least_sets
 from meetbehind.given import check_host, given_among
 from meetbehind.kinds import Kind
-from meetbehind.late import late
-from meetbehind.plans import reach
+from meetbehind.late import bound_in
+from meetbehind.plans import plan_rows
+from meetbehind.roads import kinds_of, roads_of
 from meetbehind.routes import free_addresses
 from meetbehind.worlds import World
 
@@ -21,30 +22,29 @@ def set_up(world, question, items):
     every = items_of(world, question)
     chosen = given_among(items, every)
     _check_many(world, question)
-    return _set_up(world, question, chosen)
+    return world_with(world, question, chosen)
 
 
 def family(world, x, y, question):
     """The least sets with which y hears x, and their blockers."""
     check_family(world, x, y, question)
-    least = _least(world, x, y, question)
+    least = _least(Inquiry(world, x, y, question))
     return (least, blockers(least))
 
 
 def shown_family(world, x, y, question):
     """Plans for the least sets with which y hears x, and bounds for all items without those of each blocker."""
     check_family(world, x, y, question)
-    least = _least(world, x, y, question)
-    plans = []
-    for part in least:
-        other, speakers = _set_up(world, question, part)
-        plans.append((part, reach(other, x, y, speakers=speakers)[1]))
-    bounds = []
-    for part in blockers(least):
-        rest = tuple([item for item in items_of(world, question) if item not in part])
-        other, speakers = _set_up(world, question, rest)
-        bounds.append((part, late(other, x, y, speakers=speakers)))
+    inquiry = Inquiry(world, x, y, question)
+    least = _least(inquiry)
+    plans = [(part, inquiry.plan(part)) for part in least]
+    bounds = [(part, inquiry.bound_without(part)) for part in blockers(least)]
     return (tuple(plans), tuple(bounds))
+
+
+def _least(inquiry):
+    """The least sets with which the second of two hosts hears the first."""
+    return least_sets(inquiry.every, lambda items: inquiry.is_heard(items))
 
 
 def items_of(world, question):
@@ -72,42 +72,85 @@ def check_family(world, x, y, question):
     _check_many(world, question)
 
 
-def _set_up(world, question, items):
-    """As set_up tells it, for an ascending tuple of items."""
+def world_with(world, question, items):
+    """The world and the speakers of an ascending tuple of items, as set_up tells them."""
     if question == SPEAKERS:
         return (world, items)
     if question == GATES:
-        return (_loosened(world, items), None)
-    for realm in items:
-        world = _with_helper(world, realm)
-    return (world, None)
+        loosest = Kind("one", "any", turns=True)
+        strictest = Kind("both", "both")
+        return (world.with_kinds({gate: loosest if gate in items else strictest for gate in world.gates}), None)
+    return (_with_helpers(world, items), None)
 
 
-def _loosened(world, gates):
-    """The world in which these gates are as loose, and the others as strict, as can be."""
-    loosest = Kind("one", "any", turns=True)
-    strictest = Kind("both", "both")
-    parts = []
-    for part in world.parts:
-        kind = loosest if part[1] in gates else strictest
-        parts.append(part[:4] + (kind,) if part[0] == "gate" else part)
+def setting(world, roads, question, items):
+    """The world, its packets and the hosts that speak, of an ascending tuple of items.
+
+    roads are the packets of the world that is given; of what does not depend on kinds nothing is worked out again.
+    """
+    other, speakers = world_with(world, question, items)
+    if question == SPEAKERS:
+        return (other, roads, speakers)
+    if question == GATES:
+        return (other, roads.with_kinds(kinds_of(other)), other.hosts)
+    return (other, roads_of(other), other.hosts)
+
+
+def _with_helpers(world, realms):
+    """The world with a host more in each of these realms."""
+    letters = [letter for letter in LETTERS if letter not in world]
+    # each helper takes the first letter and the first address that are left
+    helpers = [("host", letter, realm, address)
+               for realm, letter, address in zip(realms, letters, free_addresses(world))]
+    parts = list(world.parts) + helpers
     return World(*parts)
 
 
-def _with_helper(world, realm):
-    """The world with a host more in a realm."""
-    letters = [letter for letter in LETTERS if letter not in world]
-    addresses = list(free_addresses(world))
-    return world.with_part(("host", letters[0], realm, addresses[0]))
+class Inquiry:
+    """Whether y hears x with sets of items of a question, each an ascending tuple, asked again and again.
 
+    every is the tuple of all items. What was worked out for a set is kept as long as the inquiry.
+    """
 
-def _least(world, x, y, question):
-    """The least sets with which y hears x."""
-    return least_sets(items_of(world, question), lambda items: _is_heard(world, x, y, question, items))
+    def __init__(self, world, x, y, question):
+        self.every = items_of(world, question)
+        self._world = world
+        self._goal = (x, y)
+        self._question = question
+        self._courses = {}
+        widest = _with_helpers(world, self.every) if question == HELPERS else world
+        self._roads = roads_of(widest)
+        # the helper of each realm in the world that has all of them
+        self._helpers = {part[2]: part[1] for part in widest.parts[len(world.parts):]}
 
+    def is_heard(self, items):
+        """Whether y hears x with these items."""
+        if self._question == SPEAKERS and self._goal[0] not in items:
+            # a host that does not speak is heard by nobody
+            return False
+        if self._question == HELPERS:
+            # a helper that keeps silent changes as little as one that is not there: no other station has its address
+            helpers = [self._helpers[realm] for realm in items]
+            return is_heard(self._roads, tuple(sorted(list(self._world.hosts) + helpers)), *self._goal)
+        return self._course(items).first_row(*self._goal) is not None
 
-def _is_heard(world, x, y, question, items):
-    """Whether y hears x with a set of items."""
-    other, speakers = _set_up(world, question, items)
-    course = Course(other, other.hosts if speakers is None else speakers, ())
-    return course.first_row(x, y) is not None
+    def plan(self, items):
+        """A plan in which y hears x with these items, with which it does."""
+        course = self._course(items)
+        return plan_rows(course, [course.first_row(*self._goal)[:3]])
+
+    def bound_without(self, part):
+        """The bound which shows that y never hears x with the items that are not in a set, with which it does not."""
+        rest = tuple([item for item in self.every if item not in part])
+        return bound_in(self._course(rest), *self._goal)
+
+    def _course(self, items):
+        """The rounds with these items, done until y hears x."""
+        if items not in self._courses:
+            self._courses[items] = self._new_course(items)
+        return self._courses[items]
+
+    def _new_course(self, items):
+        """As _course tells it, worked out anew."""
+        _, roads, speakers = setting(self._world, self._roads, self._question, items)
+        return Course(roads, speakers, goal=self._goal)

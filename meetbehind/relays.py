@@ -2,6 +2,7 @@
 
 from meetbehind.course import Course
 from meetbehind.given import check_host
+from meetbehind.roads import roads_of
 
 
 def relays(world, x, y):
@@ -27,5 +28,5 @@ def groups(world):
 
 def _talking_pairs(world):
     """A dict of the pairs of hosts that hear each other, a host and itself among them."""
-    heard = {(row[1], row[3]): True for row in Course(world, world.hosts, ()).rows}
+    heard = {(row[1], row[3]): True for row in Course(roads_of(world), world.hosts).rows}
     return {(x, y): True for x, y in heard if (y, x) in heard}

@@ -20,6 +20,24 @@ def route(world, realm, address):
         realm = world.realm(realm)
 
 
+def all_routes(world):
+    """For each realm a dict from the addresses of all stations to the routes of packets that are sent there from it."""
+    inside = {}
+    for part in world.parts:
+        inside.setdefault(part[2], {})[part[3]] = ("station", (), part[1])
+    routes = {"": {part[3]: ("nowhere", (), None) for part in world.parts}}
+    routes[""].update(inside.get("", {}))
+    for part in world.parts:
+        # a gate stands behind the one around it
+        if part[0] == "gate":
+            gate = part[1]
+            found = {number: (word, (gate,) + gates, place) for number, (word, gates, place) in routes[part[2]].items()}
+            found[part[3]] = ("turn", (), gate)
+            found.update(inside.get(gate, {}))
+            routes[gate] = found
+    return routes
+
+
 def gates_out(world, course):
     """The gates through which a packet with such a route goes out, in order."""
     word, gates, place = course

@@ -1,9 +1,10 @@
 """Which hosts must speak so that a host hears another one."""
 
-from meetbehind.course import Course
+from meetbehind.course import is_heard
 from meetbehind.errors import NotHeard
 from meetbehind.given import check_host
 from meetbehind.questions import family
+from meetbehind.roads import roads_of
 
 
 def least_speakers(world, x, y):
@@ -15,16 +16,12 @@ def needed(world, x, y):
     """The hosts without which y never hears x."""
     check_host(world, x)
     check_host(world, y)
-    if not _is_heard(world, x, y, world.hosts):
+    roads = roads_of(world)
+    if not is_heard(roads, world.hosts, x, y):
         raise NotHeard(y)
-    return tuple([name for name in world.hosts if not _is_heard_without(world, x, y, name)])
+    return tuple([name for name in world.hosts if not is_heard(roads, _all_but(world.hosts, name), x, y)])
 
 
-def _is_heard_without(world, x, y, silent):
-    """Whether y hears x if all hosts but one speak."""
-    return _is_heard(world, x, y, tuple([host for host in world.hosts if host != silent]))
-
-
-def _is_heard(world, x, y, speakers):
-    """Whether y hears x if these hosts speak."""
-    return Course(world, speakers, ()).first_row(x, y) is not None
+def _all_but(hosts, name):
+    """The hosts without one of them."""
+    return tuple([host for host in hosts if host != name])

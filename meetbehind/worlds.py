@@ -29,8 +29,6 @@ class World:
             self._take(part)
         self._gates = tuple(sorted(list(self._kinds)))
         self._hosts = tuple(sorted([name for name in self._realms if name not in self._kinds]))
-        # worlds are equal whatever the order of their parts is
-        self._sorted_parts = sorted(parts, key=lambda part: part[1])
 
     def _check_place(self, index, part):
         """Raises what is wrong with the realm, the name or the address of a part."""
@@ -82,7 +80,8 @@ class World:
 
     def address(self, name):
         """The address of a station in its realm."""
-        if name not in self:
+        # asked often: a call less
+        if not (isinstance(name, str) and name in self._addresses):
             raise NoStation(name)
         return self._addresses[name]
 
@@ -126,8 +125,21 @@ class World:
             raise NoStation(gate)
         if not isinstance(kind, Kind):
             raise InvalidKind(0)
-        parts = [part[:4] + (kind,) if part[1] == gate else part for part in self._parts]
-        return World(*parts)
+        return self.with_kinds({gate: kind})
+
+    def with_kinds(self, kinds):
+        """The world in which the gates of a dict have its kinds."""
+        other = World()
+        other._parts = tuple([part[:4] + (kinds[part[1]],) if part[1] in kinds else part for part in self._parts])
+        other._kinds = {gate: kinds.get(gate, self._kinds[gate]) for gate in self._kinds}
+        # all else is as it is here; it can be shared, as no world ever changes
+        other._addresses = self._addresses
+        other._realms = self._realms
+        other._places = self._places
+        other._around = self._around
+        other._gates = self._gates
+        other._hosts = self._hosts
+        return other
 
     def without(self, name):
         """The world without a station."""
@@ -155,13 +167,18 @@ class World:
         return len(self._parts)
 
     def __eq__(self, other):
-        return isinstance(other, World) and self._sorted_parts == other._sorted_parts
+        return isinstance(other, World) and _in_any_order(self) == _in_any_order(other)
 
     def __str__(self):
         return "\n".join([_line_of_part(part) for part in self._parts])
 
     def __repr__(self):
         return f"World({len(self._gates)} gates, {len(self._hosts)} hosts)"
+
+
+def _in_any_order(world):
+    """The parts of a world as they are compared, as worlds are equal whatever the order of their parts is."""
+    return sorted(world.parts, key=lambda part: part[1])
 
 
 def _is_part(value):

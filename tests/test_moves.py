@@ -260,10 +260,10 @@ class NobodyIsHeardLaterTest(Checks, unittest.TestCase):
                     self.assert_not_later(world, one, book_after(other, event))
 
 
-class NetworkTest(Checks, unittest.TestCase):
-    """What the rounds tell is so in a network with ports, in which all hosts send to all that they know."""
+class NetworkChecks(Checks):
 
-    def check(self, world, event, rng):
+    def check_network(self, world, event, rng):
+        """Asserts that what the rounds tell is so in a network, in which all hosts send to all that they know."""
         program = Program(world, rng)
         for _ in range(Closure(world).rounds + 2):
             program.round()
@@ -282,17 +282,20 @@ class NetworkTest(Checks, unittest.TestCase):
                     # packets of the same round may have opened a gate, too
                     self.assertLessEqual(heard[(x, y)], first, (str(world), event, x, y))
 
+
+class NetworkTest(NetworkChecks, unittest.TestCase):
+
     def test_worlds_of_the_document(self):
         for seed, world in enumerate(WORLDS):
             for event in events(world):
-                self.check(world, event, random.Random(seed))
+                self.check_network(world, event, random.Random(seed))
 
     def test_random_worlds(self):
         for seed in range(80):
             rng = random.Random(seed)
             world = random_world(rng, gates=4, hosts=4, last=12)
             for event in rng.sample(events(world), min(4, len(events(world)))):
-                self.check(world, event, rng)
+                self.check_network(world, event, rng)
 
 
 if __name__ == "__main__":

@@ -5,7 +5,7 @@ import unittest
 
 from meetbehind.errors import InvalidTarget, NoStation
 from meetbehind.kinds import Kind
-from meetbehind.routes import free_addresses, hidden, reachable, way
+from meetbehind.routes import all_routes, free_addresses, hidden, reachable, way
 from meetbehind.worlds import World
 from tests.samples import Checks, DEEP, INNER, ONE, SIX, values_but
 
@@ -43,6 +43,16 @@ class WayTest(Checks, unittest.TestCase):
         for turns in (False, True):
             world = ONE.with_kind("a", Kind("one", "any", turns=turns))
             self.assert_same(way(world, "x", 5), ("turn", (), "a"))
+
+    def test_all_routes_of_a_world(self):
+        for world in (ONE, DEEP, SIX, INNER, World(*ONE.parts[:2]), World()):
+            routes = all_routes(world)
+            self.assertEqual(sorted(routes), ["", *world.gates])
+            for realm in routes:
+                self.assertEqual(set(routes[realm]), {part[3] for part in world.parts})
+            for host in world.hosts:
+                for address, route in routes[world.realm(host)].items():
+                    self.assert_same(route, way(world, host, address))
 
     def test_wrong_hosts_and_addresses(self):
         for value in values_but(["x", "y", "p"]):

@@ -185,6 +185,24 @@ class ChangeTest(Checks, unittest.TestCase):
         self.assert_raises(Taken, {"index": 5}, ONE.with_part, host("z", "a", 10))
         self.assert_raises(TooDeep, {"index": 7}, DEEP.with_part, gate("d", "c", 1))
 
+    def test_a_world_with_other_kinds_is_a_world_of_its_own(self):
+        for world in (ONE, DEEP, SIX):
+            gates = world.gates
+            other = world.with_kinds({gates[0]: FREE, gates[-1]: FREE})
+            parts = [part[:4] + (FREE,) if part[1] in (gates[0], gates[-1]) else part for part in world.parts]
+            again = World(*parts)
+            self.assertEqual((other, other.parts, str(other), repr(other)), (again, again.parts, str(again), repr(again)))
+            self.assertEqual((len(other), other.gates, other.hosts), (len(again), again.gates, again.hosts))
+            for name in gates + world.hosts:
+                self.assertEqual((other.address(name), other.realm(name), other.chain(name), name in other),
+                                 (again.address(name), again.realm(name), again.chain(name), True))
+            for gate in gates:
+                self.assertEqual((other.kind(gate), other.stations(gate)), (again.kind(gate), again.stations(gate)))
+                self.assertEqual(world.kind(gate), [part[4] for part in world.parts if part[1] == gate][0])
+            self.assertEqual(other.without(world.hosts[0]).with_part(("host", "new", "", 77)),
+                             again.without(world.hosts[0]).with_part(("host", "new", "", 77)))
+            self.assertEqual(world.with_kinds({}), world)
+
     def test_with_kind(self):
         world = ONE.with_kind("a", FREE)
         self.assert_same(world.parts, (("gate", "a", "", 5, FREE),) + ONE.parts[1:])
